@@ -1,0 +1,1 @@
+"""Circuits with loops that settle, or flip for ever."""

@@ -1,0 +1,1 @@
+"""Names, bits, values, rows and tables."""

@@ -1,0 +1,1 @@
+"""Circuits, their settings, their wires and their loops."""

@@ -1,0 +1,1 @@
+"""States of circuits and steps between them."""

@@ -1,0 +1,1 @@
+"""Known values of circuits, and the papers that show them."""

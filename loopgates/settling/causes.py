@@ -1,0 +1,119 @@
+"""Steady values, causal paths, and papers for known values."""
+
+from loopgates.base.names import UNKNOWN, are_up_to
+from loopgates.base.rows import VALUES, rows_over
+from loopgates.circuits.circuits import gate_map, names_of_gates, require_circuit, require_gate
+from loopgates.circuits.settings import require_partial
+from loopgates.circuits.wires import chain_end
+from loopgates.errors import TooMany
+from loopgates.settling.derivations import derives, found_derivation
+from loopgates.settling.known import all_values, first_values, forced_by, gate_values
+
+MAX_STEADY_GATES = 8
+
+
+def agrees(circuit, values):
+    """Return whether each gate has the value that the values of its sources force."""
+    for gate in circuit[1]:
+        if forced_by(gate, values) != values[gate[0]]:
+            return False
+    return True
+
+
+def is_steady_dict(circuit, setting, value):
+    """Return whether the value is a dict of steady values."""
+    gates = names_of_gates(circuit)
+    if not isinstance(value, dict) or len(value) != len(gates) or not are_up_to(list(value.values()), UNKNOWN):
+        return False
+    values = first_values(circuit, setting)
+    for name in gates:
+        if name not in value:
+            return False
+        values[name] = value[name]
+    return agrees(circuit, values)
+
+
+def is_steady(circuit, setting, value):
+    """Return whether the value is a dict of steady values."""
+    require_circuit(circuit)
+    require_partial(circuit, setting)
+    return is_steady_dict(circuit, setting, value)
+
+
+def steady_values(circuit, setting):
+    """Yield all steady values, ascending by the tuples of their values."""
+    require_circuit(circuit)
+    require_partial(circuit, setting)
+    gates = names_of_gates(circuit)
+    if len(gates) > MAX_STEADY_GATES:
+        raise TooMany(MAX_STEADY_GATES)
+    known = all_values(circuit, setting)
+    # All steady values have the known bits, so only the other gates have a choice.
+    choices = [VALUES if known[name] == UNKNOWN else (known[name],) for name in gates]
+    for row in rows_over(choices):
+        found = {name: value for name, value in zip(gates, row)}
+        if agrees(circuit, {**known, **found}):
+            yield found
+
+
+def causal_path(circuit, setting, gate):
+    """Return a causal path of the gate, or None if it is derived."""
+    require_circuit(circuit)
+    require_partial(circuit, setting)
+    require_gate(circuit, gate)
+    values = all_values(circuit, setting)
+    if values[gate] != UNKNOWN:
+        return None
+    gates = gate_map(circuit)
+    seen = {}
+    path = []
+    name = gate
+    while name in gates and name not in seen:
+        seen[name] = True
+        sources = gates[name][0]
+        # A gate that is not derived reads something unknown: a row of bits would force it.
+        wire = [values[source] for source in sources].index(UNKNOWN)
+        path.append((name, wire))
+        name = sources[wire]
+    return tuple(path)
+
+
+def is_causal_path(circuit, setting, gate, value):
+    """Return whether the value is a causal path of the gate."""
+    require_circuit(circuit)
+    require_partial(circuit, setting)
+    require_gate(circuit, gate)
+    gates = gate_map(circuit)
+    end = chain_end(gates, value)
+    if end is None or value[0][0] != gate:
+        return False
+    values = all_values(circuit, setting)
+    passed = [name for name, _ in value]
+    for name in passed:
+        if values[name] != UNKNOWN:
+            return False
+    return end in passed or (end not in gates and values[end] == UNKNOWN)
+
+
+def value_paper(circuit, setting, gate):
+    """Return a value paper of the gate."""
+    require_circuit(circuit)
+    require_partial(circuit, setting)
+    require_gate(circuit, gate)
+    lines = found_derivation(circuit, setting, gate)
+    if lines is None:
+        return ("steady", gate_values(circuit, setting))
+    return ("derived", lines)
+
+
+def is_value_paper(circuit, setting, gate, value):
+    """Return whether the value is a value paper of the gate."""
+    require_circuit(circuit)
+    require_partial(circuit, setting)
+    require_gate(circuit, gate)
+    if not isinstance(value, tuple) or len(value) != 2:
+        return False
+    kind, shown = value
+    if kind == "derived":
+        return derives(circuit, setting, gate, shown)
+    return kind == "steady" and is_steady_dict(circuit, setting, shown) and shown[gate] == UNKNOWN
