@@ -142,6 +142,12 @@ class Judged(Case):
             self.same(is_derivation(WAYS, AT, "z", value), False, value)
             self.same(judged(WAYS, AT, "z", value), False, value)
 
+    def test_wires_below_zero_are_none(self):
+        circuit = make_circuit("a", x=("or", "a", "a"), y=((1, 1), "a"))
+        for line, wanted in ((("x", 1, (0,)), True), (("x", 1, (-1, 0)), False), (("x", 1, (-1,)), False), (("y", 1, (-1,)), False),
+                             (("x", 1, (-2, 0)), False), (("y", 1, (0,)), True), (("y", 1, (1,)), False)):
+            self.same(is_derivation(circuit, {"a": 1}, line[0], (line,)), wanted, line)
+
     def test_of_another_gate(self):
         for gate in gate_names(WAYS):
             self.same(is_derivation(WAYS, AT, gate, LINES), gate == "z")

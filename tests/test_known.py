@@ -171,6 +171,15 @@ class KnownErrors(Case):
             for call in CALLS:
                 self.refuses(InvalidSetting, call, CROSS, value)
 
+    def test_values_that_the_package_returned(self):
+        rounds = derived_rounds(TIE, {"a": 1})
+        for value in (rounds, known_values(CROSS, {"a": 0, "c": 1}), ranks(TIE, {"a": 1}), TIE[1], TIE[1][0]):
+            for call in CALLS:
+                self.refuses(InvalidCircuit, call, value, {"a": 1})
+                self.refuses(InvalidSetting, call, TIE, value)
+            self.same(self.refuses(UnknownName, known_value, TIE, {"a": 1}, value).name, value)
+        self.same(list(rounds), [{"x": 1}])
+
     def test_what_is_no_gate(self):
         for value in odd_values() + ["p", "c"]:
             if value != "x":

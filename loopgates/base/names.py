@@ -26,11 +26,6 @@ def is_bit(value):
     return is_integer(value) and 0 <= value <= 1
 
 
-def is_value(value):
-    """Return whether the value is 0, 1 or 2."""
-    return is_integer(value) and 0 <= value <= UNKNOWN
-
-
 def is_row(value):
     """Return whether the value is a tuple of values."""
     return isinstance(value, tuple) and are_up_to(value, UNKNOWN)

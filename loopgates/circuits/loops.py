@@ -5,18 +5,26 @@ from loopgates.circuits.wires import chain_end
 from loopgates.errors import InvalidOperation
 
 
+def mask_of(numbers):
+    """Return the sum of 2 ** k over the different numbers k."""
+    return sum([1 << number for number in numbers])
+
+
+def has_number(mask, number):
+    """Return whether 2 ** number is in the sum."""
+    return (mask >> number) & 1 == 1
+
+
 def reached_masks(circuit):
     """Return a list with, for each gate, the sum of 2 ** k over all gates k that it reads, directly or not."""
+    gates = circuit[1]
     numbers = {name: at for at, name in enumerate(names_of_gates(circuit))}
     masks = []
-    for _, sources, _ in circuit[1]:
-        mask = 0
-        for source in sources:
-            if source in numbers:
-                mask = mask | 1 << numbers[source]
-        masks.append(mask)
+    for _, sources, _ in gates:
+        read = sorted({numbers[source] for source in sources if source in numbers})
+        masks.append(mask_of(read))
     # After the turn of a middle gate all ways are known that pass only gates up to it.
-    for middle in range(len(masks)):
+    for middle in range(len(gates)):
         bit = 1 << middle
         further = masks[middle]
         masks = [mask | further if mask & bit else mask for mask in masks]
@@ -31,7 +39,7 @@ def mutual_groups(masks):
         if first not in placed:
             group = [first]
             for other in range(first + 1, len(masks)):
-                if mask >> other & 1 and masks[other] >> first & 1:
+                if has_number(mask, other) and has_number(masks[other], first):
                     group.append(other)
             for member in group:
                 placed[member] = True
@@ -61,11 +69,6 @@ def first_ready(masks, groups, done):
     return at
 
 
-def mask_of(numbers):
-    """Return the sum of 2 ** k over the numbers k."""
-    return sum([1 << number for number in numbers])
-
-
 def ordered_parts(circuit):
     """Return the parts of what is known to be a circuit."""
     names = names_of_gates(circuit)
@@ -75,7 +78,7 @@ def ordered_parts(circuit):
 def looping_gates(circuit):
     """Return the gates of what is known to be a circuit that read themselves, directly or not."""
     masks = reached_masks(circuit)
-    return tuple([name for at, name in enumerate(names_of_gates(circuit)) if masks[at] >> at & 1])
+    return tuple([name for at, name in enumerate(names_of_gates(circuit)) if has_number(masks[at], at)])
 
 
 def parts(circuit):

@@ -1,0 +1,193 @@
+"""Rules of the subset of Python in which the package is written, as far as a test can see them."""
+
+import ast
+import builtins
+import pathlib
+import re
+import unittest
+
+ROOT = pathlib.Path(__file__).resolve().parent.parent
+PACKAGE = ROOT / "loopgates"
+FILES = sorted(path for path in PACKAGE.rglob("*.py"))
+INTERFACE = {
+    "base/names": "is_name is_bit is_row continues UNKNOWN",
+    "base/tables": "is_table wires_of value_at used_wires prime_rows word_table table_word fixed joined negated MAX_WIRES",
+    "circuits/circuits":
+        "is_circuit make_circuit circuit_from gate_names sources_of table_of readers renamed renamed_by held held_by cone"
+        " cone_of MAX_INPUTS MAX_GATES",
+    "circuits/loops": "parts loop_gates is_loop_free levels shortest_loop is_loop_of",
+    "settling/known": "known_values known_value ranks derived_rounds settles_all",
+    "settling/derivations": "derivation is_derivation derive_all needed_lines",
+    "settling/causes": "is_steady steady_values causal_path is_causal_path value_paper is_value_paper",
+    "runs/states": "nodes is_state plain_state state_from bit_of wish_of excited stepped stepped_by",
+    "errors":
+        "CircuitError InvalidTable InvalidRow InvalidCircuit InvalidSetting InvalidState InvalidStep InvalidValues InvalidFormula"
+        " InvalidModule InvalidBehaviour InvalidNet InvalidMachine InvalidOperation InvalidEdit ParseError InvalidCommand"
+        " InvalidNumber UnknownName Conflict TooMany Flipping NothingToUndo",
+}
+BUILTINS = set(
+    "len range enumerate zip min max sum abs sorted reversed int str bool list tuple dict set isinstance ord repr any all divmod"
+    " Exception ValueError TypeError KeyError IndexError LookupError ZeroDivisionError ArithmeticError OverflowError RuntimeError"
+    " NotImplementedError NotImplemented".split())
+METHODS = set(
+    "append clear copy count endswith extend find get index insert isalnum isalpha isdigit islower isspace isupper items join keys"
+    " ljust lower lstrip partition pop remove replace reverse rfind rjust rpartition rsplit rstrip setdefault split splitlines"
+    " startswith strip update upper values zfill bit_length add discard".split())
+NEVER = set("mro elements open input law version_info with_traceback add_note register".split())
+WORDS = ("type", "typing", "typing_extensions", "enum", "Enum", "IntEnum", "StrEnum", "Flag", "IntFlag", "Generic", "Protocol",
+         "ABC", "ABCMeta", "namedtuple", "NamedTuple", "TypedDict", "abstractmethod", "dataclass", "overload", "contextmanager")
+BARRED = (
+    ast.AsyncFunctionDef, ast.AsyncFor, ast.AsyncWith, ast.Await, ast.GeneratorExp, ast.Global, ast.Lambda, ast.NamedExpr,
+    ast.Div, ast.JoinedStr, ast.Try, ast.With)
+LIBRARY = {"heapq", "math", "itertools", "collections"}
+
+
+def bound_names(function):
+    """Return the names of the parameters and local variables of a function."""
+    names = [argument.arg for argument in ast.walk(function.args) if isinstance(argument, ast.arg)]
+    names.extend(node.id for node in ast.walk(function) if isinstance(node, ast.Name) and isinstance(node.ctx, ast.Store))
+    return names
+
+
+class Language(unittest.TestCase):
+    def each(self):
+        """Yield each file with its text and its tree."""
+        for path in FILES:
+            text = path.read_text(encoding="ascii")
+            yield path, text, ast.parse(text)
+
+    def test_files(self):
+        self.assertTrue(FILES)
+        for path in PACKAGE.rglob("*"):
+            if "__pycache__" not in path.parts:
+                self.assertTrue(path.is_dir() or path.suffix == ".py", path)
+                self.assertRegex(path.stem, r"\A[a-z_0-9]+\Z")
+                if path.is_dir():
+                    self.assertTrue((path / "__init__.py").exists(), path)
+                    self.assertFalse(path.with_suffix(".py").exists(), path)
+                self.assertNotIn(path.stem, dir(builtins))
+
+    def test_sizes_and_characters(self):
+        for path, text, tree in self.each():
+            lines = text.split("\n")
+            self.assertLessEqual(len(lines), 399, path)
+            for number, line in enumerate(lines, start=1):
+                self.assertLessEqual(len(line), 120, (path, number))
+                self.assertTrue(all(" " <= sign <= "~" for sign in line), (path, number))
+                self.assertEqual(line, line.rstrip(), (path, number))
+            for node in ast.walk(tree):
+                if isinstance(node, ast.FunctionDef):
+                    self.assertLessEqual(node.end_lineno - node.lineno + 1, 40, (path, node.name))
+                    self.assertEqual(node.decorator_list, [], (path, node.name))
+                    self.assertTrue(ast.get_docstring(node) or node.name == "__init__", (path, node.name))
+
+    def test_module_level(self):
+        for path, _, tree in self.each():
+            names = []
+            for at, node in enumerate(tree.body):
+                docstring = at == 0 and isinstance(node, ast.Expr) and isinstance(node.value, ast.Constant)
+                plain = isinstance(node, (ast.ImportFrom, ast.FunctionDef, ast.ClassDef, ast.Assign))
+                self.assertTrue(docstring or plain, (path, node.lineno))
+                if isinstance(node, ast.ImportFrom):
+                    names.extend(alias.name for alias in node.names)
+                elif isinstance(node, ast.Assign):
+                    names.extend(target.id for target in node.targets)
+                elif not docstring:
+                    names.append(node.name)
+            self.assertEqual(len(names), len(set(names)), path)
+            self.assertFalse(set(names) & set(dir(builtins)), path)
+
+    def test_imports(self):
+        reads = {}
+        for path, _, tree in self.each():
+            reads[path] = []
+            for node in ast.walk(tree):
+                self.assertNotIsInstance(node, ast.Import, path)
+                if isinstance(node, ast.ImportFrom):
+                    self.assertEqual(node.level, 0, path)
+                    self.assertTrue(all(alias.asname is None and alias.name != "*" for alias in node.names), path)
+                    if node.module not in LIBRARY:
+                        source = ROOT / (node.module.replace(".", "/") + ".py")
+                        self.assertIn(source, FILES, path)
+                        defined = [child for child in ast.parse(source.read_text()).body if not isinstance(child, ast.ImportFrom)]
+                        own = {getattr(child, "name", None) for child in defined}
+                        own |= {child.targets[0].id for child in defined if isinstance(child, ast.Assign)}
+                        self.assertTrue({alias.name for alias in node.names} <= own, (path, node.module))
+                        reads[path].append(source)
+                    used = {child.id for child in ast.walk(tree) if isinstance(child, ast.Name)}
+                    self.assertTrue({alias.name for alias in node.names} <= used, (path, node.module))
+        done = set()
+        while reads:
+            ready = [path for path in reads if set(reads[path]) <= done]
+            self.assertTrue(ready, "files that import one another")
+            for path in ready:
+                done.add(path)
+                del reads[path]
+
+    def test_statements_and_expressions(self):
+        for path, _, tree in self.each():
+            for node in ast.walk(tree):
+                at = (path, getattr(node, "lineno", None))
+                self.assertNotIsInstance(node, BARRED, at)
+                if isinstance(node, ast.Constant):
+                    self.assertNotIsInstance(node.value, (float, complex), at)
+                    if isinstance(node.value, str):
+                        self.assertNotIn("%", node.value, at)
+                if isinstance(node, ast.Compare):
+                    for sign, other in zip(node.ops, node.comparators):
+                        if isinstance(sign, (ast.Is, ast.IsNot)):
+                            self.assertIn(repr(getattr(other, "value", 0)), ("None", "True", "False"), at)
+                if isinstance(node, ast.SetComp):
+                    self.assertIn("sorted({", ast.unparse(tree), at)
+                if isinstance(node, ast.Set):
+                    self.fail(at)
+                if isinstance(node, ast.Raise):
+                    self.assertIsInstance(node.exc, ast.Call, at)
+
+    def test_names(self):
+        for path, text, tree in self.each():
+            module = {alias.name for node in tree.body if isinstance(node, ast.ImportFrom) for alias in node.names}
+            module |= {node.name for node in tree.body if isinstance(node, (ast.ClassDef, ast.FunctionDef))}
+            for node in ast.walk(tree):
+                if isinstance(node, ast.FunctionDef):
+                    for name in bound_names(node):
+                        self.assertNotIn(name, module, (path, node.name))
+                        self.assertNotIn(name, dir(builtins), (path, node.name))
+                        self.assertRegex(name, r"\A([a-z][a-z_0-9]*|_)\Z", (path, node.name))
+                    self.assertNotIn("_", [n.id for n in ast.walk(node) if isinstance(n, ast.Name) and isinstance(n.ctx, ast.Load)])
+                if isinstance(node, ast.Name):
+                    self.assertNotIn(node.id, NEVER, path)
+                    if node.id in dir(builtins):
+                        self.assertIn(node.id, BUILTINS, path)
+                if isinstance(node, ast.Attribute):
+                    self.assertNotIn(node.attr, NEVER, path)
+                    self.assertFalse(node.attr.startswith("__"), path)
+            bare = re.sub(r'"""(.|\n)*?"""|#.*', "", text)
+            for word in WORDS:
+                self.assertIsNone(re.search(rf"\b{word}\b", bare), (path, word))
+
+    def test_methods(self):
+        for path, _, tree in self.each():
+            for node in ast.walk(tree):
+                if isinstance(node, ast.Call) and isinstance(node.func, ast.Attribute):
+                    self.assertIn(node.func.attr, METHODS, (path, node.lineno))
+                    self.assertEqual(node.keywords, [], (path, node.lineno))
+
+    def test_views_are_iterated_at_once(self):
+        for path, _, tree in self.each():
+            for node in ast.walk(tree):
+                if isinstance(node, ast.Assign) and isinstance(node.value, ast.Call):
+                    name = getattr(node.value.func, "id", getattr(node.value.func, "attr", ""))
+                    self.assertNotIn(name, ("zip", "enumerate", "reversed", "items", "keys", "values", "map"), (path, node.lineno))
+
+    def test_interface(self):
+        for name, words in INTERFACE.items():
+            tree = ast.parse((PACKAGE / (name + ".py")).read_text())
+            own = {getattr(node, "name", None) for node in tree.body}
+            own |= {node.targets[0].id for node in tree.body if isinstance(node, ast.Assign)}
+            for word in words.split():
+                self.assertIn(word, own, name)
+
+
+if __name__ == "__main__":
+    unittest.main()
