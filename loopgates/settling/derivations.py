@@ -1,7 +1,5 @@
 """Derivations: known values shown line by line."""
 
-from itertools import combinations
-
 from loopgates.base.names import UNKNOWN, is_ascending, is_bit, is_integer
 from loopgates.base.tables import forced_bit
 from loopgates.circuits.circuits import gate_map, require_circuit, require_gate
@@ -22,13 +20,12 @@ def forced_at(table, sources, bits, wires):
 
 def fewest_wires(sources, table, bits):
     """Return the fewest wires at which the bits force any bit, and of several such tuples the least one."""
-    able = [wire for wire, source in enumerate(sources) if source in bits]
-    enough = []
-    for many in range(len(able) + 1):
-        for wires in combinations(able, many):
-            if forced_at(table, sources, bits, wires) != UNKNOWN:
-                enough.append(wires)
-    return enough[0]
+    choices = [()]
+    for wire, source in enumerate(sources):
+        if source in bits:
+            choices = choices + [wires + (wire,) for wires in choices]
+    enough = [(len(wires), wires) for wires in choices if forced_at(table, sources, bits, wires) != UNKNOWN]
+    return min(enough)[1]
 
 
 def lines_by_rank(circuit, setting):
