@@ -20,25 +20,47 @@ INTERFACE = {
     "settling/derivations": "derivation is_derivation derive_all needed_lines",
     "settling/causes": "is_steady steady_values causal_path is_causal_path value_paper is_value_paper",
     "runs/states": "nodes is_state plain_state state_from bit_of wish_of excited stepped stepped_by",
+    "runs/plays": "Play",
+    "runs/fair": "is_step_loop is_fair_loop flipping_gates",
+    "runs/flips": "flipping_loop settling_paper is_settling_paper",
+    "runs/force": "rest_states lasting_states lasting_bits",
+    "formulas/formulas": "Formula MAX_NAMES",
+    "formulas/settles": "settles_formula settles_formulas settled_formula first_unsettled",
+    "unrolled/unrolled": "unrolled unrolled_by is_unrolling least_copies gate_formulas first_difference",
+    "modules/behaviours":
+        "is_module make_module module_from is_behaviour behaviour_of behaviour_from behaviour_by answer output_primes"
+        " behaviour_of_primes first_unlike MAX_PORTS MAX_OUTPUTS",
+    "modules/nets": "Net MAX_PARTS",
     "errors":
         "CircuitError InvalidTable InvalidRow InvalidCircuit InvalidSetting InvalidState InvalidStep InvalidValues InvalidFormula"
         " InvalidModule InvalidBehaviour InvalidNet InvalidMachine InvalidOperation InvalidEdit ParseError InvalidCommand"
         " InvalidNumber UnknownName Conflict TooMany Flipping NothingToUndo",
 }
+CLASSES = {
+    ("runs/plays", "Play"):
+        "__init__ circuit setting state steps rounds excited change step step_by rush turn undo twin __len__ __bool__"
+        " __contains__ __eq__ __str__",
+    ("formulas/formulas", "Formula"):
+        "variable bit of_table __and__ __or__ __xor__ __invert__ __eq__ implies __call__ names __len__ __bool__ __str__"
+        " total settings first restricted restricted_by some every",
+    ("modules/nets", "Net"):
+        "made single inputs parts wires outputs __call__ values_at passes behaviour flattened grouped __add__ replaced"
+        " __contains__ __len__ __eq__ __str__",
+}
 BUILTINS = set(
     "len range enumerate zip min max sum abs sorted reversed int str bool list tuple dict set isinstance ord repr any all divmod"
-    " Exception ValueError TypeError KeyError IndexError LookupError ZeroDivisionError ArithmeticError OverflowError RuntimeError"
+    " property classmethod type Exception ValueError TypeError KeyError IndexError LookupError ZeroDivisionError ArithmeticError OverflowError RuntimeError"
     " NotImplementedError NotImplemented".split())
 METHODS = set(
     "append clear copy count endswith extend find get index insert isalnum isalpha isdigit islower isspace isupper items join keys"
     " ljust lower lstrip partition pop remove replace reverse rfind rjust rpartition rsplit rstrip setdefault split splitlines"
-    " startswith strip update upper values zfill bit_length add discard".split())
+    " startswith strip update upper values zfill bit_length add discard isascii popleft".split())
 NEVER = set("mro elements open input law version_info with_traceback add_note register".split())
 WORDS = ("type", "typing", "typing_extensions", "enum", "Enum", "IntEnum", "StrEnum", "Flag", "IntFlag", "Generic", "Protocol",
          "ABC", "ABCMeta", "namedtuple", "NamedTuple", "TypedDict", "abstractmethod", "dataclass", "overload", "contextmanager")
 BARRED = (
     ast.AsyncFunctionDef, ast.AsyncFor, ast.AsyncWith, ast.Await, ast.GeneratorExp, ast.Global, ast.Lambda, ast.NamedExpr,
-    ast.Div, ast.JoinedStr, ast.Try, ast.With)
+    ast.Div, ast.Try, ast.With)
 LIBRARY = {"heapq", "math", "itertools", "collections"}
 
 
@@ -50,6 +72,22 @@ def bound_names(function):
 
 
 class Language(unittest.TestCase):
+    @classmethod
+    def setUpClass(cls):
+        """Find the names of all methods and attributes of the classes of the package."""
+        cls.own = set()
+        cls.attributes = set()
+        cls.properties = set()
+        for path in FILES:
+            for node in ast.walk(ast.parse(path.read_text())):
+                if isinstance(node, ast.ClassDef):
+                    for child in node.body:
+                        if isinstance(child, ast.FunctionDef):
+                            decorators = [ast.unparse(decorator) for decorator in child.decorator_list]
+                            (cls.properties if "property" in decorators else cls.own).add(child.name)
+                if isinstance(node, ast.Attribute) and isinstance(node.ctx, ast.Store):
+                    cls.attributes.add(node.attr)
+
     def each(self):
         """Yield each file with its text and its tree."""
         for path in FILES:
@@ -78,8 +116,9 @@ class Language(unittest.TestCase):
             for node in ast.walk(tree):
                 if isinstance(node, ast.FunctionDef):
                     self.assertLessEqual(node.end_lineno - node.lineno + 1, 40, (path, node.name))
-                    self.assertEqual(node.decorator_list, [], (path, node.name))
-                    self.assertTrue(ast.get_docstring(node) or node.name == "__init__", (path, node.name))
+                    for decorator in node.decorator_list:
+                        self.assertIn(ast.unparse(decorator), ("property", "classmethod", node.name + ".setter"), (path, node.name))
+                    self.assertTrue(ast.get_docstring(node) or node.name.startswith("__"), (path, node.name))
 
     def test_module_level(self):
         for path, _, tree in self.each():
@@ -135,10 +174,13 @@ class Language(unittest.TestCase):
                         self.assertNotIn("%", node.value, at)
                 if isinstance(node, ast.Compare):
                     for sign, other in zip(node.ops, node.comparators):
-                        if isinstance(sign, (ast.Is, ast.IsNot)):
+                        if isinstance(sign, (ast.Is, ast.IsNot)) and not ast.unparse(node.left).startswith("type("):
                             self.assertIn(repr(getattr(other, "value", 0)), ("None", "True", "False"), at)
                 if isinstance(node, ast.SetComp):
                     self.assertIn("sorted({", ast.unparse(tree), at)
+                if isinstance(node, ast.FormattedValue):
+                    self.assertEqual(node.conversion, -1, at)
+                    self.assertIn(node.format_spec and ast.unparse(node.format_spec), (None, "f'b'"), at)
                 if isinstance(node, ast.Set):
                     self.fail(at)
                 if isinstance(node, ast.Raise):
@@ -163,13 +205,14 @@ class Language(unittest.TestCase):
                     self.assertNotIn(node.attr, NEVER, path)
                     self.assertFalse(node.attr.startswith("__"), path)
             bare = re.sub(r'"""(.|\n)*?"""|#.*', "", text)
+            bare = re.sub(r"\btype\([a-z_0-9\[\]]+\) is (not )?(int|str|tuple|dict)\b", "", bare)
             for word in WORDS:
                 self.assertIsNone(re.search(rf"\b{word}\b", bare), (path, word))
 
     def test_methods(self):
         for path, _, tree in self.each():
             for node in ast.walk(tree):
-                if isinstance(node, ast.Call) and isinstance(node.func, ast.Attribute):
+                if isinstance(node, ast.Call) and isinstance(node.func, ast.Attribute) and node.func.attr not in self.own:
                     self.assertIn(node.func.attr, METHODS, (path, node.lineno))
                     self.assertEqual(node.keywords, [], (path, node.lineno))
 
@@ -179,6 +222,33 @@ class Language(unittest.TestCase):
                 if isinstance(node, ast.Assign) and isinstance(node.value, ast.Call):
                     name = getattr(node.value.func, "id", getattr(node.value.func, "attr", ""))
                     self.assertNotIn(name, ("zip", "enumerate", "reversed", "items", "keys", "values", "map"), (path, node.lineno))
+
+    def test_names_of_methods_and_attributes(self):
+        plain = {name for name in self.own if not name.startswith("__")} - {"setting"}
+        self.assertFalse(plain & METHODS)
+        self.assertFalse(plain & self.attributes)
+        self.assertFalse(plain & self.properties)
+        self.assertFalse((self.properties - {"setting"}) & self.attributes)
+
+    def test_operators_and_properties_change_nothing(self):
+        changing = ("append", "extend", "update", "pop", "insert", "remove", "clear", "reverse", "setdefault", "popleft")
+        for path, _, tree in self.each():
+            for node in ast.walk(tree):
+                if isinstance(node, ast.FunctionDef) and (node.name.startswith("__") or node.decorator_list):
+                    if node.name in ("__init__", "__call__") or ast.unparse(node).startswith("@setting.setter"):
+                        continue
+                    for child in ast.walk(node):
+                        if isinstance(child, (ast.Attribute, ast.Subscript)):
+                            self.assertIsInstance(child.ctx, ast.Load, (path, node.name))
+                        if isinstance(child, ast.Call) and isinstance(child.func, ast.Attribute):
+                            self.assertNotIn(child.func.attr, changing, (path, node.name))
+
+    def test_methods_of_the_interface(self):
+        for (name, kind), words in CLASSES.items():
+            tree = ast.parse((PACKAGE / (name + ".py")).read_text())
+            found = [node for node in tree.body if isinstance(node, ast.ClassDef) and node.name == kind]
+            own = {child.name for child in found[0].body if isinstance(child, ast.FunctionDef)}
+            self.assertFalse(set(words.split()) - own, kind)
 
     def test_interface(self):
         for name, words in INTERFACE.items():

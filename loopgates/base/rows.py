@@ -1,6 +1,5 @@
-"""Rows of bits and rows of values, in order."""
+"""Rows of values, in order, and their numbers."""
 
-BITS = (0, 1)
 VALUES = (0, 1, 2)
 
 
@@ -12,9 +11,10 @@ def rows_over(choices):
     return rows
 
 
-def position_of(bits):
-    """Return the number whose binary digits are the bits, the first one first."""
-    position = 0
-    for bit in bits:
-        position = 2 * position + bit
-    return position
+def ternary_row(number, length):
+    """Return the row of so many values that are the ternary digits of the number."""
+    row = ()
+    for _ in range(length):
+        row = (number % 3,) + row
+        number = number // 3
+    return row

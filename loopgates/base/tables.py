@@ -1,18 +1,51 @@
 """Tables of functions of zero to four wires."""
 
-from loopgates.base.names import UNKNOWN, are_up_to, is_bit, is_integer, is_row
-from loopgates.base.rows import BITS, VALUES, position_of, rows_over
+from loopgates.base.names import UNKNOWN, is_bit, is_row
+from loopgates.base.rows import ternary_row
 from loopgates.errors import InvalidNumber, InvalidRow, InvalidTable, UnknownName
 
 MAX_WIRES = 4
-TABLE_SIZES = (1, 2, 4, 8, 16)
-# The bits that a wire with the value 0, 1 or 2 may have.
-CHOICES = ((0,), (1,), (0, 1))
+TABLE_SIZES = {1: 0, 2: 1, 4: 2, 8: 3, 16: 4}
+# The number of wires for which `None` stands.
+USUAL_WIRES = {
+    "and": 2, "or": 2, "xor": 2, "nand": 2, "nor": 2, "same": 2,
+    "not": 1, "buffer": 1, "zero": 0, "one": 0, "choose": 3,
+}
+WORD_TABLES = {
+    ("and", 2): (0, 0, 0, 1),
+    ("and", 3): (0, 0, 0, 0, 0, 0, 0, 1),
+    ("and", 4): (0, 0, 0, 0, 0, 0, 0, 0, 0, 0, 0, 0, 0, 0, 0, 1),
+    ("or", 2): (0, 1, 1, 1),
+    ("or", 3): (0, 1, 1, 1, 1, 1, 1, 1),
+    ("or", 4): (0, 1, 1, 1, 1, 1, 1, 1, 1, 1, 1, 1, 1, 1, 1, 1),
+    ("xor", 2): (0, 1, 1, 0),
+    ("xor", 3): (0, 1, 1, 0, 1, 0, 0, 1),
+    ("xor", 4): (0, 1, 1, 0, 1, 0, 0, 1, 1, 0, 0, 1, 0, 1, 1, 0),
+    ("nand", 2): (1, 1, 1, 0),
+    ("nand", 3): (1, 1, 1, 1, 1, 1, 1, 0),
+    ("nand", 4): (1, 1, 1, 1, 1, 1, 1, 1, 1, 1, 1, 1, 1, 1, 1, 0),
+    ("nor", 2): (1, 0, 0, 0),
+    ("nor", 3): (1, 0, 0, 0, 0, 0, 0, 0),
+    ("nor", 4): (1, 0, 0, 0, 0, 0, 0, 0, 0, 0, 0, 0, 0, 0, 0, 0),
+    ("same", 2): (1, 0, 0, 1),
+    ("same", 3): (1, 0, 0, 1, 0, 1, 1, 0),
+    ("same", 4): (1, 0, 0, 1, 0, 1, 1, 0, 0, 1, 1, 0, 1, 0, 0, 1),
+    ("not", 1): (1, 0),
+    ("buffer", 1): (0, 1),
+    ("zero", 0): (0,),
+    ("one", 0): (1,),
+    ("choose", 3): (0, 0, 1, 1, 0, 1, 0, 1),
+}
 
 
 def is_table(value):
     """Return whether the value is a table."""
-    return isinstance(value, tuple) and len(value) in TABLE_SIZES and are_up_to(value, 1)
+    if type(value) is not tuple or len(value) not in TABLE_SIZES:
+        return False
+    for bit in value:
+        if type(bit) is not int or bit and bit != 1:
+            return False
+    return True
 
 
 def require_table(table):
@@ -23,20 +56,39 @@ def require_table(table):
 
 def count_wires(table):
     """Return the number of wires of what is known to be a table."""
-    return len(table).bit_length() - 1
+    return TABLE_SIZES[len(table)]
+
+
+def result_at(table, bits):
+    """Return the result for a row of bits."""
+    at = 0
+    for bit in bits:
+        at = at + at + bit
+    return table[at]
 
 
 def forced_bit(table, row):
     """Return the bit that a row of values forces, or 2."""
-    positions = [0]
+    if UNKNOWN not in row:
+        return result_at(table, row)
+    # The table is cut to the results that are still possible; it consists of blocks, one for
+    # each choice of bits for the unknown wires so far.
+    size = len(table)
     for value in row:
-        positions = [2 * position + bit for position in positions for bit in CHOICES[value]]
-    results = [table[position] for position in positions]
-    if 0 not in results:
+        whole = size
+        size = size >> 1
+        if value == UNKNOWN:
+            continue
+        if len(table) != whole:
+            start = size if value else 0
+            table = [bit for at in range(start, len(table), whole) for bit in table[at:at + size]]
+        elif value:
+            table = table[size:]
+        else:
+            table = table[:size]
+    if 0 not in table:
         return 1
-    if 1 not in results:
-        return 0
-    return UNKNOWN
+    return UNKNOWN if 1 in table else 0
 
 
 def wires_of(table):
@@ -47,8 +99,9 @@ def wires_of(table):
 
 def value_at(table, row):
     """Return the bit that the row forces, or 2."""
-    require_table(table)
-    if not is_row(row) or len(row) != count_wires(table):
+    if not is_table(table):
+        raise InvalidTable("not a tuple of 1, 2, 4, 8 or 16 bits")
+    if not is_row(row) or len(row) != TABLE_SIZES[len(table)]:
         raise InvalidRow("not a row with a value for each wire")
     return forced_bit(table, row)
 
@@ -56,8 +109,43 @@ def value_at(table, row):
 def used_wires(table):
     """Return the ascending tuple of the wires on which the function depends."""
     require_table(table)
-    wires = range(count_wires(table))
-    return tuple([wire for wire in wires if held_table(table, wire, 0) != held_table(table, wire, 1)])
+    used = []
+    for wire in range(count_wires(table)):
+        if held_table(table, wire, 0) != held_table(table, wire, 1):
+            used.append(wire)
+    return tuple(used)
+
+
+def all_values_at(table):
+    """Return the list of the values that all rows of values force, in the order of the rows."""
+    values = list(table)
+    # From the last wire on, a third block behind each two says what they have in common.
+    size = 1
+    while size < len(values):
+        wider = []
+        for at in range(0, len(values), 2 * size):
+            low = values[at:at + size]
+            high = values[at + size:at + 2 * size]
+            wider.extend(low + high + [a if a == b else UNKNOWN for a, b in zip(low, high)])
+        values = wider
+        size = 3 * size
+    return values
+
+
+def primes_of(table, bit):
+    """Return the list of the prime rows of what is known to be a table, ascending."""
+    wires = count_wires(table)
+    values = all_values_at(table)
+    weights = (27, 9, 3, 1)[MAX_WIRES - wires:]
+    rows = []
+    for at, value in enumerate(values):
+        if value == bit:
+            row = ternary_row(at, wires)
+            # To leave out one bit is enough: with even fewer bits a row forces no more.
+            wider = [at + (UNKNOWN - item) * weight for item, weight in zip(row, weights) if item != UNKNOWN]
+            if bit not in [values[other] for other in wider]:
+                rows.append(row)
+    return rows
 
 
 def prime_rows(table, bit):
@@ -65,113 +153,56 @@ def prime_rows(table, bit):
     require_table(table)
     if not is_bit(bit):
         raise InvalidNumber(bit)
-    rows = rows_over([VALUES] * count_wires(table))
-    return tuple([row for row in rows if is_prime(table, row, bit)])
-
-
-def is_prime(table, row, bit):
-    """Return whether the row, but no row with fewer of its bits, forces the bit."""
-    if forced_bit(table, row) != bit:
-        return False
-    # To leave out one bit is enough: with even fewer bits a row forces no more.
-    for wire, value in enumerate(row):
-        if value != UNKNOWN and forced_bit(table, row[:wire] + (UNKNOWN,) + row[wire + 1:]) == bit:
-            return False
-    return True
-
-
-def all_ones(bits):
-    """Return 1 if there is no 0."""
-    return 0 if 0 in bits else 1
-
-
-def some_one(bits):
-    """Return 1 if there is a 1."""
-    return 1 if 1 in bits else 0
-
-
-def odd_ones(bits):
-    """Return 1 if the number of ones is odd."""
-    return sum(bits) & 1
-
-
-def chosen_bit(bits):
-    """Return the second bit if the first one is 0, otherwise the third one."""
-    return bits[1 + bits[0]]
-
-
-WORD_WIRES = {
-    "and": (2, 3, 4),
-    "or": (2, 3, 4),
-    "xor": (2, 3, 4),
-    "nand": (2, 3, 4),
-    "nor": (2, 3, 4),
-    "same": (2, 3, 4),
-    "not": (1,),
-    "buffer": (1,),
-    "zero": (0,),
-    "one": (0,),
-    "choose": (3,),
-}
-RULES = {
-    "and": all_ones,
-    "or": some_one,
-    "xor": odd_ones,
-    "buffer": all_ones,
-    "one": all_ones,
-    "choose": chosen_bit,
-}
-NEGATED_WORDS = {"nand": "and", "nor": "or", "same": "xor", "not": "buffer", "zero": "one"}
+    return tuple(primes_of(table, bit))
 
 
 def is_word(value):
     """Return whether the value is a word for tables."""
-    return isinstance(value, str) and value in WORD_WIRES
+    return type(value) is str and value in USUAL_WIRES
 
 
 def has_word_table(word, wires):
     """Return whether the word has a table with so many wires."""
-    return wires in WORD_WIRES[word]
+    return (word, wires) in WORD_TABLES
 
 
 def built_table(word, wires):
     """Return the table of a word with a number of wires that it has."""
-    if word in NEGATED_WORDS:
-        return flipped_table(built_table(NEGATED_WORDS[word], wires))
-    rule = RULES[word]
-    return tuple([rule(bits) for bits in rows_over([BITS] * wires)])
+    return WORD_TABLES[(word, wires)]
 
 
 def word_table(word, *, wires=None):
     """Return the table of a word."""
     if not is_word(word):
         raise UnknownName(word)
-    many = WORD_WIRES[word][0] if wires is None else wires
-    if not is_integer(many) or not has_word_table(word, many):
+    many = USUAL_WIRES[word] if wires is None else wires
+    if type(many) is not int or not has_word_table(word, many):
         raise InvalidNumber(wires)
-    return built_table(word, many)
+    return WORD_TABLES[(word, many)]
 
 
 def table_word(table):
     """Return the word that has this table, or None."""
     require_table(table)
-    wires = count_wires(table)
-    for word in WORD_WIRES:
-        if has_word_table(word, wires) and built_table(word, wires) == table:
+    for (word, _), known in WORD_TABLES.items():
+        if known == table:
             return word
     return None
 
 
 def require_wire(table, wire):
     """Raise InvalidNumber if it is not a wire of the table."""
-    if not is_integer(wire) or not 0 <= wire < count_wires(table):
+    if type(wire) is not int or not 0 <= wire < count_wires(table):
         raise InvalidNumber(wire)
 
 
 def held_table(table, wire, bit):
     """Return the table with a wire held at a bit and left out."""
-    rows = rows_over([BITS] * (count_wires(table) - 1))
-    return tuple([table[position_of(row[:wire] + (bit,) + row[wire:])] for row in rows])
+    size = len(table)
+    block = size >> (wire + 1)
+    if block == 1:
+        return table[bit::2]
+    return tuple([result for at in range(bit * block, size, 2 * block) for result in table[at:at + block]])
 
 
 def flipped_table(table):
@@ -195,10 +226,13 @@ def joined(table, first, second):
     require_wire(table, second)
     if second == first:
         raise InvalidNumber(second)
+    wires = count_wires(table)
     # Without the second wire, the first one may stand one place further left.
-    place = first - 1 if second < first else first
-    rows = rows_over([BITS] * (count_wires(table) - 1))
-    return tuple([table[position_of(row[:second] + (row[place],) + row[second:])] for row in rows])
+    place = wires - 1 - (first if second < first else first + 1)
+    gap = wires - 1 - second
+    rows = range(len(table) >> 1)
+    # In the number of each row without the second wire, the bit of the first one is put in.
+    return tuple([table[row + ((row >> gap) + (row >> place & 1) << gap)] for row in rows])
 
 
 def negated(table):

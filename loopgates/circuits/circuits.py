@@ -1,53 +1,57 @@
 """Circuits: made, asked and changed."""
 
-from loopgates.base.names import is_ascending, is_bit, is_name, is_name_tuple
-from loopgates.base.tables import built_table, count_wires, has_word_table, is_table, is_word
+from loopgates.base.names import MAX_LETTERS, are_lowercase, is_bit, is_name
+from loopgates.base.tables import MAX_WIRES, built_table, has_word_table, is_word
 from loopgates.errors import Conflict, InvalidCircuit, InvalidNumber, InvalidOperation, TooMany, UnknownName
 
 MAX_INPUTS = 12
 MAX_GATES = 200
+# The lengths of tables by their numbers of wires.
+SIZES = (1, 2, 4, 8, 16)
 
 
 def is_circuit(value):
     """Return whether the value is a circuit."""
-    if not isinstance(value, tuple) or len(value) != 2:
+    if type(value) is not tuple or len(value) != 2:
         return False
     inputs, gates = value
-    if not is_name_tuple(inputs) or len(inputs) > MAX_INPUTS:
+    if type(inputs) is not tuple or type(gates) is not tuple or len(inputs) > MAX_INPUTS or len(gates) > MAX_GATES:
         return False
-    return are_gates(gates) and are_linked(inputs, gates)
-
-
-def are_gates(value):
-    """Return whether the value is a tuple of gates, ascending by different names."""
-    if not isinstance(value, tuple) or len(value) > MAX_GATES:
-        return False
-    for gate in value:
-        if not is_gate_form(gate):
+    names = []
+    before = ""
+    for name in inputs:
+        if type(name) is not str or name <= before or len(name) > MAX_LETTERS:
             return False
-    return is_ascending([name for name, _, _ in value])
-
-
-def is_gate_form(value):
-    """Return whether the value is a triple of a name, a tuple and a table with as many wires."""
-    if not isinstance(value, tuple) or len(value) != 3:
-        return False
-    name, sources, table = value
-    if not is_name(name) or not isinstance(sources, tuple) or not is_table(table):
-        return False
-    return len(sources) == count_wires(table)
-
-
-def are_linked(inputs, gates):
-    """Return whether no gate has the name of an input, and all sources are inputs or gates."""
-    names = {name: True for name in inputs}
-    for name, _, _ in gates:
-        if name in names:
+        names.append(name)
+        before = name
+    before = ""
+    # No calls in this loop: most functions look at all gates each time that they are called.
+    for gate in gates:
+        if type(gate) is not tuple or len(gate) != 3:
             return False
-        names[name] = True
+        name, sources, table = gate
+        if type(name) is not str or name <= before or len(name) > MAX_LETTERS:
+            return False
+        if type(sources) is not tuple or type(table) is not tuple:
+            return False
+        if len(sources) > MAX_WIRES or len(table) != SIZES[len(sources)]:
+            return False
+        for bit in table:
+            if type(bit) is not int or bit and bit != 1:
+                return False
+        names.append(name)
+        before = name
+    return are_lowercase(names) and are_linked(names, gates)
+
+
+def are_linked(names, gates):
+    """Return whether all names are different, and all sources are among them."""
+    known = set(names)
+    if len(known) != len(names):
+        return False
     for _, sources, _ in gates:
         for source in sources:
-            if not isinstance(source, str) or source not in names:
+            if type(source) is not str or source not in known:
                 return False
     return True
 
@@ -70,14 +74,14 @@ def gate_map(circuit):
 
 def require_gate(circuit, gate):
     """Raise UnknownName if it is not a gate of the circuit."""
-    # A tuple is asked, not a dict: the gate may be any value, also one without a hash.
-    if gate not in names_of_gates(circuit):
+    # The gate may be any value, also one without a hash.
+    if type(gate) is not str or gate not in [name for name, _, _ in circuit[1]]:
         raise UnknownName(gate)
 
 
 def require_name(circuit, name):
     """Raise UnknownName if it is neither an input nor a gate of the circuit."""
-    if name not in circuit[0] and name not in names_of_gates(circuit):
+    if type(name) is not str or name not in circuit[0] and name not in [gate[0] for gate in circuit[1]]:
         raise UnknownName(name)
 
 
@@ -211,6 +215,11 @@ def cone_of(circuit, names):
         raise InvalidOperation("not a tuple of names")
     for name in names:
         require_name(circuit, name)
+    return part_read(circuit, names)
+
+
+def part_read(circuit, names):
+    """Return the circuit of what are known to be inputs and gates, and of all that they read."""
     kept = all_read(circuit, names)
     inputs, gates = circuit
     return (tuple([name for name in inputs if name in kept]), tuple([gate for gate in gates if gate[0] in kept]))

@@ -1,90 +1,106 @@
 """Loops of circuits: parts, levels and shortest loops."""
 
-from loopgates.circuits.circuits import gate_map, names_of_gates, require_circuit, require_gate
+from heapq import heapify, heappop, heappush
+
+from loopgates.circuits.circuits import gate_map, require_circuit, require_gate
 from loopgates.circuits.wires import chain_end
 from loopgates.errors import InvalidOperation
 
 
-def mask_of(numbers):
-    """Return the sum of 2 ** k over the different numbers k."""
-    return sum([1 << number for number in numbers])
-
-
-def has_number(mask, number):
-    """Return whether 2 ** number is in the sum."""
-    return (mask >> number) & 1 == 1
-
-
-def reached_masks(circuit):
-    """Return a list with, for each gate, the sum of 2 ** k over all gates k that it reads, directly or not."""
+def read_numbers(circuit):
+    """Return a list with, for each gate, the list of the numbers of the gates that it reads."""
     gates = circuit[1]
-    numbers = {name: at for at, name in enumerate(names_of_gates(circuit))}
-    masks = []
-    for _, sources, _ in gates:
-        read = sorted({numbers[source] for source in sources if source in numbers})
-        masks.append(mask_of(read))
-    # After the turn of a middle gate all ways are known that pass only gates up to it.
-    for middle in range(len(gates)):
-        bit = 1 << middle
-        further = masks[middle]
-        masks = [mask | further if mask & bit else mask for mask in masks]
-    return masks
+    numbers = {gate[0]: at for at, gate in enumerate(gates)}
+    return [[numbers[source] for source in sources if source in numbers] for _, sources, _ in gates]
 
 
-def mutual_groups(masks):
-    """Return the list of the parts as ascending lists of the numbers of gates."""
+def mutual_groups(reads):
+    """Return the list of the parts as lists of the numbers of gates, each part after all that it reads."""
+    # This is Tarjan's way to find strongly connected sets, with a path in the place of recursion.
+    visits = [0] * len(reads)
+    earliest = [0] * len(reads)
+    waiting = [len(sources) for sources in reads]
+    unplaced = []
     groups = []
-    placed = {}
-    for first, mask in enumerate(masks):
-        if first not in placed:
-            group = [first]
-            for other in range(first + 1, len(masks)):
-                if has_number(mask, other) and has_number(masks[other], first):
-                    group.append(other)
-            for member in group:
-                placed[member] = True
-            groups.append(group)
+    count = 0
+    for root in range(len(reads)):
+        path = [] if visits[root] else [root]
+        while path:
+            at = path[-1]
+            if not visits[at]:
+                count += 1
+                visits[at] = earliest[at] = count
+                unplaced.append(at)
+            if waiting[at]:
+                waiting[at] -= 1
+                other = reads[at][waiting[at]]
+                if not visits[other]:
+                    path.append(other)
+                elif visits[other] < earliest[at]:
+                    earliest[at] = visits[other]
+                continue
+            path.pop()
+            if earliest[at] == visits[at]:
+                cut = unplaced.index(at)
+                group = unplaced[cut:]
+                del unplaced[cut:]
+                groups.append(group)
+                for member in group:
+                    # Nothing is earlier than a gate that is placed, so its readers do not go with it.
+                    visits[member] = len(reads) + 1
+            elif earliest[at] < earliest[path[-1]]:
+                earliest[path[-1]] = earliest[at]
     return groups
 
 
-def ordered_groups(masks):
-    """Return the parts, as `mutual_groups` does, but each of them after all that it reads."""
-    waiting = mutual_groups(masks)
+def ordered_groups(reads):
+    """Return the parts as ascending lists, in the order of `parts`."""
+    groups = sorted([sorted(group) for group in mutual_groups(reads)])
+    group_of = [0] * len(reads)
+    for number, group in enumerate(groups):
+        for member in group:
+            group_of[member] = number
+    missing = [0] * len(groups)
+    reading = [[] for _ in groups]
+    for at, sources in enumerate(reads):
+        for source in sources:
+            if group_of[source] != group_of[at]:
+                missing[group_of[at]] += 1
+                reading[group_of[source]].append(group_of[at])
+    ready = [number for number, many in enumerate(missing) if not many]
+    heapify(ready)
     ordered = []
-    done = 0
-    while waiting:
-        at = first_ready(masks, waiting, done)
-        group = waiting[at]
-        del waiting[at]
-        ordered.append(group)
-        done = done | mask_of(group)
+    while ready:
+        number = heappop(ready)
+        ordered.append(groups[number])
+        for reader in reading[number]:
+            missing[reader] -= 1
+            if not missing[reader]:
+                heappush(ready, reader)
     return ordered
 
 
-def first_ready(masks, groups, done):
-    """Return the position of the first group that reads only itself and what is done."""
-    at = 0
-    while masks[groups[at][0]] & ~(done | mask_of(groups[at])):
-        at += 1
-    return at
+def is_looping(reads, group):
+    """Return whether the gates of a part read themselves, directly or not."""
+    return len(group) > 1 or group[0] in reads[group[0]]
 
 
-def ordered_parts(circuit):
-    """Return the parts of what is known to be a circuit."""
-    names = names_of_gates(circuit)
-    return tuple([tuple([names[at] for at in group]) for group in ordered_groups(reached_masks(circuit))])
+def looping_numbers(reads):
+    """Return the ascending list of the numbers of the gates that read themselves, directly or not."""
+    return sorted([at for group in mutual_groups(reads) if is_looping(reads, group) for at in group])
 
 
 def looping_gates(circuit):
     """Return the gates of what is known to be a circuit that read themselves, directly or not."""
-    masks = reached_masks(circuit)
-    return tuple([name for at, name in enumerate(names_of_gates(circuit)) if has_number(masks[at], at)])
+    gates = circuit[1]
+    return tuple([gates[at][0] for at in looping_numbers(read_numbers(circuit))])
 
 
 def parts(circuit):
     """Return the parts, each one after all parts that it reads."""
     require_circuit(circuit)
-    return ordered_parts(circuit)
+    gates = circuit[1]
+    return tuple([tuple([gates[at][0] for at in group]) for group in ordered_groups(read_numbers(circuit))])
 
 
 def loop_gates(circuit):
@@ -102,35 +118,44 @@ def is_loop_free(circuit):
 def levels(circuit):
     """Return a dict from each gate to 1 plus the greatest level of its sources."""
     require_circuit(circuit)
-    if looping_gates(circuit):
-        raise InvalidOperation("the circuit has loops")
-    gates = gate_map(circuit)
-    found = {name: 0 for name in circuit[0]}
-    for part in ordered_parts(circuit):
-        name = part[0]
-        found[name] = 1 + max([found[source] for source in gates[name][0]], default=0)
-    return {name: found[name] for name in gates}
+    reads = read_numbers(circuit)
+    found = [0] * len(reads)
+    for group in mutual_groups(reads):
+        if is_looping(reads, group):
+            raise InvalidOperation("the circuit has loops")
+        at = group[0]
+        found[at] = 1 + max([found[other] for other in reads[at]], default=0)
+    return {gate[0]: level for gate, level in zip(circuit[1], found)}
 
 
 def shortest_loop(circuit, gate):
     """Return a loop of the gate with the fewest wires, or None."""
     require_circuit(circuit)
     require_gate(circuit, gate)
-    gates = gate_map(circuit)
-    ways = {gate: ()}
+    sources_by = {name: sources for name, sources, _ in circuit[1]}
+    # For each gate that has been met, one that reads it.
+    reader_of = {}
     nearest = [gate]
-    while nearest:
+    while nearest and gate not in reader_of:
         further = []
         for name in nearest:
-            for wire, source in enumerate(gates[name][0]):
-                way = ways[name] + ((name, wire),)
-                if source == gate:
-                    return way
-                if source in gates and source not in ways:
-                    ways[source] = way
+            for source in sources_by[name]:
+                if source not in reader_of and source in sources_by:
+                    reader_of[source] = name
                     further.append(source)
         nearest = further
-    return None
+    return way_back(sources_by, reader_of, gate) if gate in reader_of else None
+
+
+def way_back(sources_by, reader_of, gate):
+    """Return the tuple of the wires that lead from a gate back to it, by a reader of each gate."""
+    way = []
+    source = gate
+    while source != gate or not way:
+        name = reader_of[source]
+        way.append((name, sources_by[name].index(source)))
+        source = name
+    return tuple(way[::-1])
 
 
 def is_loop_of(circuit, gate, value):

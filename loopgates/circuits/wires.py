@@ -1,12 +1,10 @@
 """Nodes that are wires, and chains of them."""
 
-from loopgates.base.names import is_integer
-
 
 def is_node_pair(value):
     """Return whether the value is a pair of a string and an integer, as nodes are."""
     # True and False are equal to 1 and 0, also within pairs, but no wires.
-    return isinstance(value, tuple) and len(value) == 2 and isinstance(value[0], str) and is_integer(value[1])
+    return type(value) is tuple and len(value) == 2 and type(value[0]) is str and type(value[1]) is int
 
 
 def source_of_wire(gates, value):
@@ -24,7 +22,7 @@ def chain_end(gates, value):
     A chain is a tuple of one or more wires of different gates. The source
     of each wire but the last one is the gate of the next one.
     """
-    if not isinstance(value, tuple):
+    if type(value) is not tuple:
         return None
     seen = {}
     source = None

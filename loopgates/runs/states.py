@@ -1,7 +1,7 @@
 """States of circuits, the wishes of their nodes, and steps."""
 
-from loopgates.base.names import are_up_to, is_bit, is_bit_row
-from loopgates.base.tables import forced_bit
+from loopgates.base.names import is_bit, is_bit_row
+from loopgates.base.tables import result_at
 from loopgates.circuits.circuits import require_circuit
 from loopgates.circuits.settings import require_setting
 from loopgates.circuits.wires import is_node_pair
@@ -15,63 +15,90 @@ def all_nodes(circuit):
     return [(name, at) for name, sources, _ in circuit[1] for at in range(GATE, len(sources))]
 
 
-def built_state(circuit, bits):
-    """Return the state in which the nodes of a dict have its bits, and all others 0."""
-    own = []
-    read = []
-    for name, sources, _ in circuit[1]:
-        own.append(bits.get((name, GATE), 0))
-        read.append(tuple([bits.get((name, wire), 0) for wire in range(len(sources))]))
-    return (tuple(own), tuple(read))
+def even_state(circuit, bit):
+    """Return the state in which all nodes have the bit."""
+    gates = circuit[1]
+    return ((bit,) * len(gates), tuple([(bit,) * len(sources) for _, sources, _ in gates]))
 
 
-def node_bits(circuit, state):
-    """Return a dict from all nodes, ascending, to their bits."""
-    bits = {}
-    for gate, own, read in zip(circuit[1], state[0], state[1]):
-        bits[(gate[0], GATE)] = own
-        for wire, bit in enumerate(read):
-            bits[(gate[0], wire)] = bit
-    return bits
-
-
-def node_wishes(circuit, setting, state):
-    """Return a dict from all nodes, ascending, to their wishes."""
-    given = {name: setting[name] for name in circuit[0]}
-    for gate, own in zip(circuit[1], state[0]):
-        given[gate[0]] = own
-    wishes = {}
-    for gate, read in zip(circuit[1], state[1]):
-        name, sources, table = gate
-        wishes[(name, GATE)] = forced_bit(table, read)
-        for wire, source in enumerate(sources):
-            wishes[(name, wire)] = given[source]
-    return wishes
+def given_bits(circuit, setting, own):
+    """Return a dict from the inputs and the gates to their bits: the wishes of the wires that read them."""
+    given = {**setting}
+    for gate, bit in zip(circuit[1], own):
+        given[gate[0]] = bit
+    return given
 
 
 def excited_nodes(circuit, setting, state):
     """Return the ascending tuple of the excited nodes."""
-    bits = node_bits(circuit, state)
-    wishes = node_wishes(circuit, setting, state)
-    return tuple([node for node in bits if bits[node] != wishes[node]])
+    own, read = state
+    given = given_bits(circuit, setting, own)
+    found = []
+    for (name, sources, table), mine, bits in zip(circuit[1], own, read):
+        position = 0
+        for bit in bits:
+            position += position + bit
+        if table[position] != mine:
+            found.append((name, GATE))
+        for wire, source in enumerate(sources):
+            if bits[wire] != given[source]:
+                found.append((name, wire))
+    return tuple(found)
 
 
-def is_node_of(places, value):
-    """Return whether the value is a node, one of the keys of a dict or the items of a tuple of nodes."""
-    return is_node_pair(value) and value in places
+def is_place(circuit, at, wire):
+    """Return whether gate number `at` has this wire, or -1 for itself."""
+    return GATE <= wire < len(circuit[1][at][1])
+
+
+def with_bit(bits, wire, bit):
+    """Return the tuple of bits with another bit for a wire."""
+    return bits[:wire] + (bit,) + bits[wire + 1:]
+
+
+def moved_state(circuit, setting, state, movers):
+    """Return the state after a step, or None if the movers are not different excited nodes."""
+    gates = circuit[1]
+    given = given_bits(circuit, setting, state[0])
+    numbers = {gate[0]: at for at, gate in enumerate(gates)}
+    own = list(state[0])
+    read = list(state[1])
+    for node in movers:
+        if not is_node_pair(node) or node[0] not in numbers:
+            return None
+        at = numbers[node[0]]
+        wire = node[1]
+        if not is_place(circuit, at, wire):
+            return None
+        # All wishes are those of the state before the step. A node that has moved has its
+        # wish, so it cannot move once more.
+        if wire == GATE:
+            wish = result_at(gates[at][2], state[1][at])
+            if own[at] == wish:
+                return None
+            own[at] = wish
+        else:
+            wish = given[gates[at][1][wire]]
+            if read[at][wire] == wish:
+                return None
+            read[at] = with_bit(read[at], wire, wish)
+    return (tuple(own), tuple(read))
 
 
 def has_state_form(circuit, value):
     """Return whether the value is a state of the circuit."""
-    if not isinstance(value, tuple) or len(value) != 2:
+    if type(value) is not tuple or len(value) != 2:
         return False
     gates = circuit[1]
     own, read = value
-    if not is_bit_row(own, len(gates)) or not isinstance(read, tuple) or len(read) != len(gates):
+    if not is_bit_row(own, len(gates)) or type(read) is not tuple or len(read) != len(gates):
         return False
-    for gate, bits in zip(gates, read):
-        if not is_bit_row(bits, len(gate[1])):
+    for (_, sources, _), bits in zip(gates, read):
+        if type(bits) is not tuple or len(bits) != len(sources):
             return False
+        for bit in bits:
+            if type(bit) is not int or bit and bit != 1:
+                return False
     return True
 
 
@@ -81,10 +108,13 @@ def require_state(circuit, state):
         raise InvalidState("not a state of the circuit")
 
 
-def require_node(circuit, node):
-    """Raise UnknownName if it is not a node of the circuit."""
-    if not is_node_of(all_nodes(circuit), node):
-        raise UnknownName(node)
+def found_place(circuit, node):
+    """Return the number of the gate of a node, or raise UnknownName if it is not a node of the circuit."""
+    if is_node_pair(node):
+        for at, gate in enumerate(circuit[1]):
+            if gate[0] == node[0] and is_place(circuit, at, node[1]):
+                return at
+    raise UnknownName(node)
 
 
 def nodes(circuit):
@@ -104,27 +134,37 @@ def plain_state(circuit, *, bit=0):
     require_circuit(circuit)
     if not is_bit(bit):
         raise InvalidNumber(bit)
-    return built_state(circuit, {node: bit for node in all_nodes(circuit)})
+    return even_state(circuit, bit)
 
 
 def state_from(circuit, bits):
     """Return the state in which the nodes of a dict have its bits, and all others 0."""
     require_circuit(circuit)
-    if not isinstance(bits, dict) or not are_up_to(list(bits.values()), 1):
-        raise InvalidState("not a dict to bits")
-    known = {node: True for node in all_nodes(circuit)}
-    for node in bits:
-        if not is_node_of(known, node):
-            raise InvalidState("not a dict from nodes of the circuit")
-    return built_state(circuit, bits)
+    if type(bits) is not dict:
+        raise InvalidState("not a dict")
+    own, read = even_state(circuit, 0)
+    own = list(own)
+    read = list(read)
+    numbers = {gate[0]: at for at, gate in enumerate(circuit[1])}
+    for node, bit in bits.items():
+        if not is_node_pair(node) or node[0] not in numbers or not is_bit(bit):
+            raise InvalidState("not a dict from nodes of the circuit to bits")
+        at = numbers[node[0]]
+        if not is_place(circuit, at, node[1]):
+            raise InvalidState("not a wire of the gate")
+        if node[1] == GATE:
+            own[at] = bit
+        else:
+            read[at] = with_bit(read[at], node[1], bit)
+    return (tuple(own), tuple(read))
 
 
 def bit_of(circuit, state, node):
     """Return the bit of a node."""
     require_circuit(circuit)
     require_state(circuit, state)
-    require_node(circuit, node)
-    return node_bits(circuit, state)[node]
+    at = found_place(circuit, node)
+    return state[0][at] if node[1] == GATE else state[1][at][node[1]]
 
 
 def wish_of(circuit, setting, state, node):
@@ -132,8 +172,11 @@ def wish_of(circuit, setting, state, node):
     require_circuit(circuit)
     require_setting(circuit, setting)
     require_state(circuit, state)
-    require_node(circuit, node)
-    return node_wishes(circuit, setting, state)[node]
+    at = found_place(circuit, node)
+    _, sources, table = circuit[1][at]
+    if node[1] == GATE:
+        return result_at(table, state[1][at])
+    return given_bits(circuit, setting, state[0])[sources[node[1]]]
 
 
 def excited(circuit, setting, state):
@@ -154,14 +197,7 @@ def stepped_by(circuit, setting, state, movers):
     require_circuit(circuit)
     require_setting(circuit, setting)
     require_state(circuit, state)
-    if not isinstance(movers, tuple) or not movers:
-        raise InvalidStep("not a tuple of one or more movers")
-    bits = node_bits(circuit, state)
-    # All wishes are those of the state before the step, so no bit changes until all are known.
-    wishes = node_wishes(circuit, setting, state)
-    moved = {}
-    for node in movers:
-        if not is_node_of(bits, node) or node in moved or bits[node] == wishes[node]:
-            raise InvalidStep("the movers are not different excited nodes")
-        moved[node] = wishes[node]
-    return built_state(circuit, {node: moved.get(node, bits[node]) for node in bits})
+    after = moved_state(circuit, setting, state, movers) if type(movers) is tuple and movers else None
+    if after is None:
+        raise InvalidStep("not one or more different excited nodes")
+    return after

@@ -1,36 +1,31 @@
 """Steady values, causal paths, and papers for known values."""
 
-from loopgates.base.names import UNKNOWN, are_up_to
-from loopgates.base.rows import VALUES, rows_over
-from loopgates.circuits.circuits import gate_map, names_of_gates, require_circuit, require_gate
-from loopgates.circuits.settings import require_partial
+from loopgates.base.masks import forced_masks, numbers_in, row_masks
+from loopgates.base.names import UNKNOWN
+from loopgates.base.rows import VALUES, ternary_row
+from loopgates.base.tables import forced_bit
+from loopgates.circuits.circuits import gate_map, require_circuit, require_gate
+from loopgates.circuits.settings import gives_inputs, require_partial
 from loopgates.circuits.wires import chain_end
 from loopgates.errors import TooMany
 from loopgates.settling.derivations import derives, found_derivation
-from loopgates.settling.known import all_values, first_values, forced_by, gate_values
+from loopgates.settling.known import all_values, gate_values
 
 MAX_STEADY_GATES = 8
 
 
 def agrees(circuit, values):
     """Return whether each gate has the value that the values of its sources force."""
-    for gate in circuit[1]:
-        if forced_by(gate, values) != values[gate[0]]:
+    for name, sources, table in circuit[1]:
+        if forced_bit(table, [values[source] for source in sources]) != values[name]:
             return False
     return True
 
 
 def is_steady_dict(circuit, setting, value):
     """Return whether the value is a dict of steady values."""
-    gates = names_of_gates(circuit)
-    if not isinstance(value, dict) or len(value) != len(gates) or not are_up_to(list(value.values()), UNKNOWN):
-        return False
-    values = first_values(circuit, setting)
-    for name in gates:
-        if name not in value:
-            return False
-        values[name] = value[name]
-    return agrees(circuit, values)
+    names = [gate[0] for gate in circuit[1]]
+    return gives_inputs(names, value, UNKNOWN) and agrees(circuit, {**setting, **value})
 
 
 def is_steady(circuit, setting, value):
@@ -40,20 +35,32 @@ def is_steady(circuit, setting, value):
     return is_steady_dict(circuit, setting, value)
 
 
+def steady_masks(circuit, known, free):
+    """Return the mask of the rows of values for some gates, the only unknown ones, with which all values are steady."""
+    pairs, full = row_masks(len(free), len(VALUES))
+    # What is known has its value in all rows.
+    constant = ((full, 0), (0, full), (0, 0))
+    masks = {name: constant[known[name]] for name in known}
+    masks.update({name: pair for name, pair in zip(free, pairs)})
+    wrong = 0
+    for name, sources, table in circuit[1]:
+        zeros, ones = forced_masks(table, [masks[source] for source in sources], full)
+        wrong = wrong | zeros ^ masks[name][0] | ones ^ masks[name][1]
+    return full ^ wrong
+
+
 def steady_values(circuit, setting):
     """Yield all steady values, ascending by the tuples of their values."""
     require_circuit(circuit)
     require_partial(circuit, setting)
-    gates = names_of_gates(circuit)
-    if len(gates) > MAX_STEADY_GATES:
+    if len(circuit[1]) > MAX_STEADY_GATES:
         raise TooMany(MAX_STEADY_GATES)
     known = all_values(circuit, setting)
     # All steady values have the known bits, so only the other gates have a choice.
-    choices = [VALUES if known[name] == UNKNOWN else (known[name],) for name in gates]
-    for row in rows_over(choices):
-        found = {name: value for name, value in zip(gates, row)}
-        if agrees(circuit, {**known, **found}):
-            yield found
+    free = [gate[0] for gate in circuit[1] if known[gate[0]] == UNKNOWN]
+    for number in numbers_in(steady_masks(circuit, known, free)):
+        chosen = {name: value for name, value in zip(free, ternary_row(number, len(free)))}
+        yield {gate[0]: chosen.get(gate[0], known[gate[0]]) for gate in circuit[1]}
 
 
 def causal_path(circuit, setting, gate):

@@ -1,0 +1,1 @@
+"""Formulas of Boolean functions, and of the settings at which gates settle."""

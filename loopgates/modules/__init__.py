@@ -1,0 +1,1 @@
+"""Modules, their behaviours, and nets of them."""

@@ -1,0 +1,1 @@
+"""Circuits without loops in the place of others."""
