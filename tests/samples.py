@@ -109,6 +109,26 @@ def greatest():
     return circuit_from(inputs, gates)
 
 
+def wide(length, word="xor", *, closed=True):
+    """Return a circuit of gates that each read the four next ones, the last ones the first ones or the input."""
+    names = [word_like(k) for k in range(length)]
+    made = {}
+    for k, name in enumerate(names):
+        read = [names[(k + j) % length] if closed or k + j < length else "a" for j in (1, 2, 3, 4)]
+        made[name] = (word_table(word, wires=4), *read)
+    return circuit_from(("a",), made)
+
+
+def replaced(value, item):
+    """Yield all tuples that have another item in the place of one of their integers, however deep in tuples."""
+    for at, old in enumerate(value):
+        if type(old) is int:
+            yield value[:at] + (item,) + value[at + 1:]
+        elif isinstance(old, tuple):
+            for changed in replaced(old, item):
+                yield value[:at] + (changed,) + value[at + 1:]
+
+
 class Case(unittest.TestCase):
     """A test case that tells 1 from True, tuples from lists, and the orders of dicts."""
 

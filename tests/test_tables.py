@@ -17,7 +17,7 @@ ALL_SMALL = [table for wires in range(4) for table in all_rows((0, 1), 2 ** wire
 DICE = random.Random(11)
 SOME_GREAT = [tuple(DICE.randint(0, 1) for _ in range(16)) for _ in range(40)] + [
     (0,) * 16, (1,) * 16, (0, 1) * 8, (0,) * 8 + (1,) * 8, (0, 0, 1, 1) * 4, (0,) * 15 + (1,)]
-SOME_TABLES = ALL_SMALL[:22] + ALL_SMALL[22::7] + SOME_GREAT
+SOME_TABLES = ALL_SMALL + SOME_GREAT
 NO_TABLES = [
     [], [0], [0, 1], [0, 1, 1, 1], (), (0, 1, 1), (0,) * 3, (0,) * 5, (0,) * 6, (0,) * 7, (0,) * 12, (0,) * 15, (0,) * 17,
     (0,) * 32, (2,), (0, 2), (True,), (False,), (0, True), (False, True), (0, 0, 0, True), (-1, 0), ("0", "1"), "01",
