@@ -209,8 +209,9 @@ class Net:
         if many > MAX_GATES:
             raise TooMany(MAX_GATES)
         # Each input port becomes a buffer, and each gate has a new name; all of them are found by part and old name.
-        olds = [(name, old) for name in parts for old in all_names(parts[name][0])]
-        fresh = {old: new for old, new in zip(olds, fresh_names(many, {name: True for name in self._inputs}))}
+        olds = [(part, old) for part in parts for old in all_names(parts[part][0])]
+        news = fresh_names(many, {source: True for source in self._inputs})
+        fresh = {old: new for old, new in zip(olds, news)}
         sources = {name: name for name in self._inputs}
         for name in parts:
             sources.update({(name, port): fresh[(name, old)] for port, old in parts[name][1]})
@@ -325,8 +326,9 @@ class Net:
     def __eq__(self, other):
         if not isinstance(other, Net):
             return False
-        mine = (self._inputs, self._parts, self._wires, self._outputs)
-        return mine == (other._inputs, other._parts, other._wires, other._outputs)
+        if self._inputs != other._inputs or self._parts != other._parts:
+            return False
+        return self._wires == other._wires and self._outputs == other._outputs
 
     def __str__(self):
         return f"net of {len(self._parts)} parts, {len(self._inputs)} inputs, {len(self._outputs)} outputs"

@@ -218,8 +218,9 @@ class Play:
     def __eq__(self, other):
         if not isinstance(other, Play):
             return False
-        mine = (self._circuit, self._setting, self._motion.own, self._motion.taken)
-        return mine == (other._circuit, other._setting, other._motion.own, other._motion.taken)
+        if self._circuit != other._circuit or self._setting != other._setting:
+            return False
+        return self._motion.own == other._motion.own and self._motion.taken == other._motion.taken
 
     def __str__(self):
         return f"play after {len(self._steps)} steps, {count_in(self._motion.uneasy)} excited"

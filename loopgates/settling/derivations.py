@@ -5,8 +5,19 @@ from loopgates.base.tables import forced_bit
 from loopgates.circuits.circuits import gate_map, require_circuit, require_gate
 from loopgates.circuits.settings import require_partial
 from loopgates.errors import InvalidValues
-from loopgates.settling.known import rounds_of
+from loopgates.settling.known import rounds_of, solve
 
+# For each number of wires, all ascending tuples of them, by their length and then ascending.
+WIRE_SETS = (
+    ((),),
+    ((), (0,)),
+    ((), (0,), (1,), (0, 1)),
+    ((), (0,), (1,), (2,), (0, 1), (0, 2), (1, 2), (0, 1, 2)),
+    (
+        (), (0,), (1,), (2,), (3,), (0, 1), (0, 2), (0, 3), (1, 2), (1, 3), (2, 3),
+        (0, 1, 2), (0, 1, 3), (0, 2, 3), (1, 2, 3), (0, 1, 2, 3),
+    ),
+)
 
 def input_bits(circuit, setting):
     """Return a dict from the inputs that are not unknown to their bits."""
@@ -20,12 +31,11 @@ def forced_at(table, sources, bits, wires):
 
 def fewest_wires(sources, table, bits):
     """Return the fewest wires at which the bits force any bit, and of several such tuples the least one."""
-    choices = [()]
-    for wire, source in enumerate(sources):
-        if source in bits:
-            choices = choices + [wires + (wire,) for wires in choices]
-    enough = [(len(wires), wires) for wires in choices if forced_at(table, sources, bits, wires) != UNKNOWN]
-    return min(enough)[1]
+    known = [source in bits for source in sources]
+    for wires in WIRE_SETS[len(sources)]:
+        if False not in [known[wire] for wire in wires] and forced_at(table, sources, bits, wires) != UNKNOWN:
+            return wires
+    return None
 
 
 def lines_by_rank(circuit, setting):
@@ -57,12 +67,25 @@ def last_needed(circuit, lines):
 
 def found_derivation(circuit, setting, gate):
     """Return a derivation of the gate, or None."""
-    lines = []
-    for line in lines_by_rank(circuit, setting):
-        lines.append(line)
-        if line[0] == gate:
-            return last_needed(circuit, lines)
-    return None
+    values, rounds = solve(circuit, setting)
+    if values[gate] == UNKNOWN:
+        return None
+    rank_of = {name: 0 for name in circuit[0] if values[name] != UNKNOWN}
+    for rank, found in enumerate(rounds, start=1):
+        rank_of.update({name: rank for name in found})
+    gates = gate_map(circuit)
+    named = {}
+    waiting = [gate]
+    while waiting:
+        name = waiting.pop()
+        if name in gates and name not in named:
+            sources, table = gates[name]
+            lesser = [source for source in sources if source in rank_of and rank_of[source] < rank_of[name]]
+            earlier = {source: values[source] for source in lesser}
+            named[name] = fewest_wires(sources, table, earlier)
+            waiting.extend([sources[wire] for wire in named[name]])
+    ordered = sorted([(rank_of[key], key) for key in named])
+    return tuple([(key, values[key], named[key]) for _, key in ordered])
 
 
 def is_right_line(gates, bits, line):
