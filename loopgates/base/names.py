@@ -43,14 +43,6 @@ def is_bit_row(value, length):
     return True
 
 
-def are_up_to(items, most):
-    """Return whether all items are integers from 0 to `most`."""
-    for item in items:
-        if type(item) is not int or item < 0 or item > most:
-            return False
-    return True
-
-
 def is_ascending(items):
     """Return whether each item is greater than the one before it."""
     for lesser, greater in zip(items, items[1:]):

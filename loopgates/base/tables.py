@@ -79,13 +79,12 @@ def forced_bit(table, row):
         size = size >> 1
         if value == UNKNOWN:
             continue
-        if len(table) != whole:
-            start = size if value else 0
-            table = [bit for at in range(start, len(table), whole) for bit in table[at:at + size]]
-        elif value:
-            table = table[size:]
+        if size == 1:
+            table = table[value::2]
+        elif len(table) == whole:
+            table = table[size:] if value else table[:size]
         else:
-            table = table[:size]
+            table = [bit for at in range(value * size, len(table), whole) for bit in table[at:at + size]]
     if 0 not in table:
         return 1
     return UNKNOWN if 1 in table else 0
@@ -190,10 +189,9 @@ def table_word(table):
     return None
 
 
-def require_wire(table, wire):
-    """Raise InvalidNumber if it is not a wire of the table."""
-    if type(wire) is not int or not 0 <= wire < count_wires(table):
-        raise InvalidNumber(wire)
+def is_wire(value, wires):
+    """Return whether the value is one of so many wires."""
+    return type(value) is int and 0 <= value < wires
 
 
 def held_table(table, wire, bit):
@@ -213,7 +211,8 @@ def flipped_table(table):
 def fixed(table, wire, bit):
     """Return the table with a wire held at a bit, which is then left out."""
     require_table(table)
-    require_wire(table, wire)
+    if not is_wire(wire, TABLE_SIZES[len(table)]):
+        raise InvalidNumber(wire)
     if not is_bit(bit):
         raise InvalidNumber(bit)
     return held_table(table, wire, bit)
@@ -222,11 +221,11 @@ def fixed(table, wire, bit):
 def joined(table, first, second):
     """Return the table with two wires that have the same bit, without the second one."""
     require_table(table)
-    require_wire(table, first)
-    require_wire(table, second)
-    if second == first:
+    wires = TABLE_SIZES[len(table)]
+    if not is_wire(first, wires):
+        raise InvalidNumber(first)
+    if not is_wire(second, wires) or second == first:
         raise InvalidNumber(second)
-    wires = count_wires(table)
     # Without the second wire, the first one may stand one place further left.
     place = wires - 1 - (first if second < first else first + 1)
     gap = wires - 1 - second

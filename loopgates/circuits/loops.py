@@ -133,29 +133,30 @@ def shortest_loop(circuit, gate):
     require_circuit(circuit)
     require_gate(circuit, gate)
     sources_by = {name: sources for name, sources, _ in circuit[1]}
-    # For each gate that has been met, one that reads it.
+    # The gates in the order in which they are met, and for each of them one that reads it.
+    met = [gate]
     reader_of = {}
-    nearest = [gate]
-    while nearest and gate not in reader_of:
-        further = []
-        for name in nearest:
-            for source in sources_by[name]:
-                if source not in reader_of and source in sources_by:
-                    reader_of[source] = name
-                    further.append(source)
-        nearest = further
+    at = 0
+    while at < len(met) and gate not in reader_of:
+        name = met[at]
+        at += 1
+        for source in sources_by[name]:
+            if source not in reader_of and source in sources_by:
+                reader_of[source] = name
+                met.append(source)
     return way_back(sources_by, reader_of, gate) if gate in reader_of else None
 
 
 def way_back(sources_by, reader_of, gate):
     """Return the tuple of the wires that lead from a gate back to it, by a reader of each gate."""
-    way = []
-    source = gate
-    while source != gate or not way:
+    name = reader_of[gate]
+    way = [(name, sources_by[name].index(gate))]
+    while name != gate:
+        source = name
         name = reader_of[source]
         way.append((name, sources_by[name].index(source)))
-        source = name
-    return tuple(way[::-1])
+    way.reverse()
+    return tuple(way)
 
 
 def is_loop_of(circuit, gate, value):

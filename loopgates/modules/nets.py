@@ -124,7 +124,7 @@ class Net:
         self._outputs = outputs
         self._pairs = output_pairs(behaviours)
         # All values are in one list: those of the inputs, and behind them those of the pairs.
-        slots = {source: slot for slot, source in enumerate([*inputs, *self._pairs])}
+        slots = {source: slot for slot, source in enumerate(list(inputs) + self._pairs)}
         self._plan = [
             ([slots[wires[(part, port)]] for port in behaviours[part][0]], behaviours[part][2]) for part in behaviours]
         self._shown = [slots[outputs[name]] for name in outputs]
@@ -135,7 +135,7 @@ class Net:
         if not is_name_tuple(inputs) or len(inputs) > MAX_PORTS:
             raise InvalidNet("not an ascending tuple of at most five names")
         behaviours = made_behaviours(parts)
-        known = {source: True for source in [*inputs, *output_pairs(behaviours)]}
+        known = {source: True for source in list(inputs) + output_pairs(behaviours)}
         pairs = input_pairs(behaviours)
         if not have_sources(known, pairs, wires):
             raise InvalidNet("not a dict from exactly the input ports of the parts to sources")
@@ -232,7 +232,7 @@ class Net:
         stay = [part for part in self._parts if part not in group]
         own = {pair: True for pair in output_pairs(inner)}
         read = {self._wires[pair]: True for pair in self._wires if pair[0] in group}
-        feeds = [source for source in [*self._inputs, *self._pairs] if source in read and source not in own]
+        feeds = [source for source in list(self._inputs) + self._pairs if source in read and source not in own]
         seen = {self._wires[pair]: True for pair in self._wires if pair[0] not in group}
         seen.update({source: True for source in list(self._outputs.values())})
         shown = [pair for pair in own if pair in seen]

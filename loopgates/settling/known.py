@@ -110,7 +110,7 @@ def all_values(circuit, setting):
 def gate_values(circuit, setting):
     """Return a dict from the gates to their known values."""
     values = all_values(circuit, setting)
-    return {gate[0]: values[gate[0]] for gate in circuit[1]}
+    return {name: values[name] for name, _, _ in circuit[1]}
 
 
 def known_values(circuit, setting):
