@@ -25,6 +25,7 @@ def is_circuit(value):
         names.append(name)
         before = name
     before = ""
+    read = []
     # No calls in this loop: most functions look at all gates each time that they are called.
     for gate in gates:
         if type(gate) is not tuple or len(gate) != 3:
@@ -40,19 +41,19 @@ def is_circuit(value):
             if type(bit) is not int or bit and bit != 1:
                 return False
         names.append(name)
+        read.extend(sources)
         before = name
-    return are_lowercase(names) and are_linked(names, gates)
+    return are_lowercase(names) and are_linked(names, read)
 
 
-def are_linked(names, gates):
+def are_linked(names, sources):
     """Return whether all names are different, and all sources are among them."""
     known = set(names)
     if len(known) != len(names):
         return False
-    for _, sources, _ in gates:
-        for source in sources:
-            if type(source) is not str or source not in known:
-                return False
+    for source in sources:
+        if type(source) is not str or source not in known:
+            return False
     return True
 
 
