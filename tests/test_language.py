@@ -31,6 +31,16 @@ INTERFACE = {
         "is_module make_module module_from is_behaviour behaviour_of behaviour_from behaviour_by answer output_primes"
         " behaviour_of_primes first_unlike MAX_PORTS MAX_OUTPUTS",
     "modules/nets": "Net MAX_PARTS",
+    "modules/surroundings": "is_surrounding result closed_circuit separating is_separating",
+    "modules/realized": "realized realized_plain is_realization looping_outputs",
+    "machines/machines": "is_machine make_machine machine_from tick outputs_of Runner MAX_REGISTERS",
+    "machines/reach": "reached_states machine_paper is_machine_paper shortest_flip",
+    "machines/compare": "separating_history least_likeness is_likeness plain_table",
+    "bench/bench": "Bench",
+    "text/expressions": "Signal compiled compiled_from equations_of",
+    "text/formats":
+        "format_table parse_table format_circuit parse_circuit format_setting parse_setting format_lines parse_lines",
+    "text/shell": "Shell",
     "errors":
         "CircuitError InvalidTable InvalidRow InvalidCircuit InvalidSetting InvalidState InvalidStep InvalidValues InvalidFormula"
         " InvalidModule InvalidBehaviour InvalidNet InvalidMachine InvalidOperation InvalidEdit ParseError InvalidCommand"
@@ -46,6 +56,13 @@ CLASSES = {
     ("modules/nets", "Net"):
         "made single inputs parts wires outputs __call__ values_at passes behaviour flattened grouped __add__ replaced"
         " __contains__ __len__ __eq__ __str__",
+    ("machines/machines", "Runner"): "__init__ machine state history set_state __call__ ticks back __len__ __eq__ twin",
+    ("bench/bench", "Bench"):
+        "__init__ of circuit setting known watched groups apply apply_all change change_by undo redo watch unwatch why unknown"
+        " during __contains__ __len__ __getitem__ __iter__ __eq__ __str__ twin",
+    ("text/expressions", "Signal"):
+        "variable bit read __and__ __or__ __xor__ __invert__ names size __call__ __str__ __eq__",
+    ("text/shell", "Shell"): "__init__ run answers bench __len__ __contains__ __str__",
 }
 BUILTINS = set(
     "len range enumerate zip min max sum abs sorted reversed int str bool list tuple dict set isinstance ord repr any all divmod"
@@ -54,13 +71,13 @@ BUILTINS = set(
 METHODS = set(
     "append clear copy count endswith extend find get index insert isalnum isalpha isdigit islower isspace isupper items join keys"
     " ljust lower lstrip partition pop remove replace reverse rfind rjust rpartition rsplit rstrip setdefault split splitlines"
-    " startswith strip update upper values zfill bit_length add discard isascii popleft".split())
+    " startswith strip update upper values zfill bit_length add discard isascii popleft removeprefix".split())
 NEVER = set("mro elements open input law version_info with_traceback add_note register".split())
 WORDS = ("type", "typing", "typing_extensions", "enum", "Enum", "IntEnum", "StrEnum", "Flag", "IntFlag", "Generic", "Protocol",
          "ABC", "ABCMeta", "namedtuple", "NamedTuple", "TypedDict", "abstractmethod", "dataclass", "overload", "contextmanager")
 BARRED = (
     ast.AsyncFunctionDef, ast.AsyncFor, ast.AsyncWith, ast.Await, ast.GeneratorExp, ast.Global, ast.Lambda, ast.NamedExpr,
-    ast.Div, ast.Try, ast.With)
+    ast.Div, ast.With)
 LIBRARY = {"heapq", "math", "itertools", "collections"}
 
 
@@ -185,6 +202,10 @@ class Language(unittest.TestCase):
                     self.fail(at)
                 if isinstance(node, ast.Raise):
                     self.assertIsInstance(node.exc, ast.Call, at)
+                if isinstance(node, ast.Try):
+                    self.assertEqual([node.handlers, node.orelse], [[], []], at)
+                    for line in node.finalbody:
+                        self.assertRegex(ast.unparse(line), r"\A(self\.)?[a-z_]+ = [a-z_]+\Z", at)
 
     def test_names(self):
         for path, text, tree in self.each():
@@ -224,24 +245,51 @@ class Language(unittest.TestCase):
                     self.assertNotIn(name, ("zip", "enumerate", "reversed", "items", "keys", "values", "map"), (path, node.lineno))
 
     def test_names_of_methods_and_attributes(self):
-        plain = {name for name in self.own if not name.startswith("__")} - {"setting"}
+        plain = {name for name in self.own if not name.startswith("__")} - {"setting", "state"}
         self.assertFalse(plain & METHODS)
         self.assertFalse(plain & self.attributes)
         self.assertFalse(plain & self.properties)
-        self.assertFalse((self.properties - {"setting"}) & self.attributes)
+        self.assertFalse((self.properties - {"setting", "state"}) & self.attributes)
 
     def test_operators_and_properties_change_nothing(self):
         changing = ("append", "extend", "update", "pop", "insert", "remove", "clear", "reverse", "setdefault", "popleft")
         for path, _, tree in self.each():
             for node in ast.walk(tree):
                 if isinstance(node, ast.FunctionDef) and (node.name.startswith("__") or node.decorator_list):
-                    if node.name in ("__init__", "__call__") or ast.unparse(node).startswith("@setting.setter"):
+                    if node.name in ("__init__", "__call__") or ast.unparse(node).startswith(("@setting.setter", "@state.setter")):
                         continue
                     for child in ast.walk(node):
                         if isinstance(child, (ast.Attribute, ast.Subscript)):
                             self.assertIsInstance(child.ctx, ast.Load, (path, node.name))
                         if isinstance(child, ast.Call) and isinstance(child.func, ast.Attribute):
                             self.assertNotIn(child.func.attr, changing, (path, node.name))
+
+    def test_what_a_class_with_items_asks_for(self):
+        for path, text, tree in self.each():
+            for word in ("(type)", "Meta", "metaclass="):
+                self.assertNotIn(word, text, path)
+            for node in ast.walk(tree):
+                if isinstance(node, ast.ClassDef):
+                    own = {child.name for child in node.body if isinstance(child, ast.FunctionDef)}
+                    self.assertLessEqual({"__getitem__"} & own, {"__getitem__"} if "__iter__" in own else set(), path)
+                if isinstance(node, ast.Call) and getattr(node.func, "id", None) == "reversed":
+                    self.assertRegex(ast.unparse(node), r"\Areversed\((list|tuple|sorted|range)\(", path)
+
+    def test_generators(self):
+        found = {}
+        for path, _, tree in self.each():
+            for node in ast.walk(tree):
+                if isinstance(node, ast.FunctionDef):
+                    own = any(isinstance(child, (ast.Yield, ast.YieldFrom)) for child in ast.walk(node))
+                    found.setdefault(node.name, []).append(own)
+        walks = {name for name in found if any(found[name])}
+        self.assertEqual({len(found[name]) for name in walks}, {1})
+        for path, _, tree in self.each():
+            for node in ast.walk(tree):
+                for child in ast.iter_child_nodes(node):
+                    if isinstance(child, ast.Call) and getattr(child.func, "id", getattr(child.func, "attr", "")) in walks:
+                        at_once = isinstance(node, (ast.For, ast.comprehension)) or isinstance(node, ast.Call)
+                        self.assertTrue(at_once, (path, child.lineno))
 
     def test_methods_of_the_interface(self):
         for (name, kind), words in CLASSES.items():

@@ -23,6 +23,11 @@ def is_bit(value):
     return type(value) is int and 0 <= value <= 1
 
 
+def is_value(value):
+    """Return whether the value is 0, 1 or 2."""
+    return type(value) is int and 0 <= value <= UNKNOWN
+
+
 def is_row(value):
     """Return whether the value is a tuple of values."""
     if type(value) is not tuple:

@@ -36,7 +36,6 @@ def branch_text(name, low, high):
 def diagram_text(names, mask):
     """Return the text of a function."""
     texts = {0: "0", 1: "1"}
-    rows = list(zip(names, levels_of(len(names), mask)))
-    for name, level in reversed(rows):
+    for name, level in reversed(list(zip(names, levels_of(len(names), mask)))):
         texts = {function: branch_text(name, texts[low], texts[high]) for function, (low, high) in level.items()}
     return texts[mask]

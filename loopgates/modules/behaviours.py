@@ -176,15 +176,9 @@ def answer(behaviour, row):
     return behaviour[2][row_number(row)]
 
 
-def output_primes(behaviour, output, bit):
-    """Return the ascending tuple of the prime rows of an output for a bit."""
-    require_behaviour(behaviour)
-    inputs, outputs, rows = behaviour
-    if type(output) is not str or output not in outputs:
-        raise UnknownName(output)
-    if not is_bit(bit):
-        raise InvalidNumber(bit)
-    place = outputs.index(output)
+def prime_list(behaviour, place, bit):
+    """Return the list of the prime rows for a bit of the output in this place, ascending."""
+    inputs, _, rows = behaviour
     weights = [len(rows) // ROW_COUNTS[at + 1] for at in range(len(inputs))]
     found = []
     for number, answers in enumerate(rows):
@@ -194,7 +188,18 @@ def output_primes(behaviour, output, bit):
             wider = [number + (UNKNOWN - value) * weight for value, weight in zip(row, weights) if value != UNKNOWN]
             if bit not in [rows[other][place] for other in wider]:
                 found.append(row)
-    return tuple(found)
+    return found
+
+
+def output_primes(behaviour, output, bit):
+    """Return the ascending tuple of the prime rows of an output for a bit."""
+    require_behaviour(behaviour)
+    outputs = behaviour[1]
+    if type(output) is not str or output not in outputs:
+        raise UnknownName(output)
+    if not is_bit(bit):
+        raise InvalidNumber(bit)
+    return tuple(prime_list(behaviour, outputs.index(output), bit))
 
 
 def continuing_mask(rows, pairs, full):

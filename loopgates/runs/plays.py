@@ -2,22 +2,16 @@
 
 from heapq import heapify, heappop, heappush
 
+from loopgates.base.counts import require_many, require_undoable
 from loopgates.base.masks import count_in, numbers_in
-from loopgates.base.names import is_integer
 from loopgates.circuits.circuits import require_circuit
 from loopgates.circuits.settings import require_setting
-from loopgates.errors import InvalidNumber, InvalidStep, NothingToUndo
+from loopgates.errors import InvalidStep
 from loopgates.runs.motion import Motion, Wiring, node_number
 from loopgates.runs.states import even_state, require_state
 
 MOST_STEPS = 10000
 EMPTY = ((), ())
-
-
-def require_many(many, most):
-    """Raise InvalidNumber if it is not an integer from 0 to `most`; None stands for no limit."""
-    if not is_integer(many) or many < 0 or (most is not None and many > most):
-        raise InvalidNumber(many)
 
 
 class Play:
@@ -132,9 +126,7 @@ class Play:
 
     def undo(self, *, many=1):
         """Take back the last steps and changes of the setting, and return how many are left."""
-        require_many(many, None)
-        if many > len(self._deeds):
-            raise NothingToUndo(many)
+        require_undoable(many, len(self._deeds))
         self._queue = None
         for _ in range(many):
             self._take_back()

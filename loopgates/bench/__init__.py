@@ -1,0 +1,1 @@
+"""A bench: a circuit under edits."""

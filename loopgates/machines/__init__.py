@@ -1,0 +1,1 @@
+"""Machines: circuits with registers, what they reach, and how they compare."""

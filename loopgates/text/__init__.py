@@ -1,0 +1,1 @@
+"""Expressions, texts and a shell."""
