@@ -225,7 +225,7 @@ class GreatCircuits(Case):
         names = gate_names(chain(200))
         self.same(ranks(chain(200), {"a": 1}), {name: k + 1 for k, name in enumerate(names)})
         self.same(ranks(wide(200, "and", closed=False), {"a": 1}), {name: 200 - k for k, name in enumerate(names)})
-        self.same(set(ranks(wide(200, "and", closed=False), {"a": 0}).values()), {k // 4 + 1 for k in range(200)})
+        self.same(sorted(set(ranks(wide(200, "and", closed=False), {"a": 0}).values())), [k + 1 for k in range(50)])
 
     def test_known_values_in_any_order_of_names(self):
         dice = random.Random(4)

@@ -65,7 +65,7 @@ class Settles(Case):
             made[order[0]] = ("or", order[59], "b")
             self.check(circuit_from(tuple("abcdef"), made))
             made = {name: ("buffer", order[k - 1] if k else "a") for k, name in enumerate(order)}
-            self.same({str(formula) for formula in self.check(circuit_from(("a",), made)).values()}, {"a ? 1 : 0", "a ? 0 : 1"})
+            self.same(sorted({str(formula) for formula in self.check(circuit_from(("a",), made)).values()}), ["a ? 0 : 1", "a ? 1 : 0"])
 
     def test_greatest_sizes(self):
         circuit = greatest()
