@@ -66,7 +66,7 @@ CLASSES = {
 }
 BUILTINS = set(
     "len range enumerate zip min max sum abs sorted reversed int str bool list tuple dict set isinstance ord repr any all divmod"
-    " property classmethod type Exception ValueError TypeError KeyError IndexError LookupError ZeroDivisionError ArithmeticError OverflowError RuntimeError"
+    " iter property classmethod type Exception ValueError TypeError KeyError IndexError LookupError ZeroDivisionError ArithmeticError OverflowError RuntimeError"
     " NotImplementedError NotImplemented".split())
 METHODS = set(
     "append clear copy count endswith extend find get index insert isalnum isalpha isdigit islower isspace isupper items join keys"
@@ -251,12 +251,19 @@ class Language(unittest.TestCase):
         self.assertFalse(plain & self.properties)
         self.assertFalse((self.properties - {"setting", "state"}) & self.attributes)
 
+    def keeps(self, node):
+        """Return whether a property does nothing but keep what it worked out, in the one form for this."""
+        form = r"if self\.(_[a-z]+) is None:\n    self\.\1 = [^\n]+\nreturn self\.\1\Z"
+        return re.match(form, "\n".join(ast.unparse(child) for child in node.body[1:])) is not None
+
     def test_operators_and_properties_change_nothing(self):
         changing = ("append", "extend", "update", "pop", "insert", "remove", "clear", "reverse", "setdefault", "popleft")
         for path, _, tree in self.each():
             for node in ast.walk(tree):
                 if isinstance(node, ast.FunctionDef) and (node.name.startswith("__") or node.decorator_list):
                     if node.name in ("__init__", "__call__") or ast.unparse(node).startswith(("@setting.setter", "@state.setter")):
+                        continue
+                    if self.keeps(node):
                         continue
                     for child in ast.walk(node):
                         if isinstance(child, (ast.Attribute, ast.Subscript)):

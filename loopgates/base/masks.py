@@ -8,6 +8,8 @@ WIRE_MASKS = (
     ((240, 15), (204, 51), (170, 85)),
     ((65280, 255), (61680, 3855), (52428, 13107), (43690, 21845)),
 )
+# So many rows are taken out one by one.
+FEW = 4
 
 
 def table_number(table):
@@ -53,6 +55,25 @@ def forced_masks(table, pairs, full):
     return zeros[0], ones[0]
 
 
+def ones_mask(table, sources, masks, full):
+    """Return the mask of the rows of bits with the result 1; `masks` has the masks where a source is 0 and where 1."""
+    if not sources:
+        return full if table[0] else 0
+    low, high = masks[sources[-1]]
+    choices = (0, high, low, full)
+    if len(sources) == 1:
+        return choices[table[0] + table[0] + table[1]]
+    if len(sources) == 2:
+        ones = (choices[table[0] + table[0] + table[1]], choices[table[2] + table[2] + table[3]])
+    else:
+        ones = [choices[first + first + second] for first, second in zip(table[::2], table[1::2])]
+        for source in sources[-2:0:-1]:
+            low, high = masks[source]
+            ones = [low & first | high & second for first, second in zip(ones[::2], ones[1::2])]
+    low, high = masks[sources[0]]
+    return low & ones[0] | high & ones[1]
+
+
 def numbers_in(mask):
     """Return the ascending list of the rows that are in a mask."""
     digits = f"{mask:b}"[::-1]
@@ -62,6 +83,16 @@ def numbers_in(mask):
         found.append(at)
         at = digits.find("1", at + 1)
     return found
+
+
+def numbers_of(mask):
+    """Return the ascending list of the rows that are in a mask, of which there are mostly few."""
+    found = []
+    while mask and len(found) < FEW:
+        unit = mask & -mask
+        found.append(unit.bit_length() - 1)
+        mask = mask ^ unit
+    return found + numbers_in(mask) if mask else found
 
 
 def first_in(mask):

@@ -1,115 +1,138 @@
-"""States that move: the nodes of a circuit by number, and which of them are excited."""
+"""The nodes of a circuit by number, their bits, and which of them are excited.
 
-from loopgates.base.rows import rows_over
+A state is a number: its binary digit k is the bit of node number k. Sets of
+nodes are numbers likewise.
+"""
+
+from loopgates.base.masks import numbers_of
 from loopgates.circuits.wires import is_node_pair
-from loopgates.runs.states import GATE, all_nodes
+from loopgates.runs.states import GATE
 
-BITS = (0, 1)
-EMPTY = ((), ())
+# For each size of a table the positions in it by the number whose digits are the bits of the wires.
+POSITIONS = {
+    4: (0, 2, 1, 3),
+    8: (0, 4, 2, 6, 1, 5, 3, 7),
+    16: (0, 8, 4, 12, 2, 10, 6, 14, 1, 9, 5, 13, 3, 11, 7, 15),
+}
+# For each number of wires the mask of the digits of a gate and its wires.
+FIELDS = (1, 3, 7, 15, 31)
+# For each such mask the bits of the wires by their digits.
+WIRE_BITS = {
+    1: ((),),
+    3: ((0,), (1,)),
+    7: ((0, 0), (1, 0), (0, 1), (1, 1)),
+    15: ((0, 0, 0), (1, 0, 0), (0, 1, 0), (1, 1, 0), (0, 0, 1), (1, 0, 1), (0, 1, 1), (1, 1, 1)),
+    31: (
+        (0, 0, 0, 0), (1, 0, 0, 0), (0, 1, 0, 0), (1, 1, 0, 0), (0, 0, 1, 0), (1, 0, 1, 0), (0, 1, 1, 0), (1, 1, 1, 0),
+        (0, 0, 0, 1), (1, 0, 0, 1), (0, 1, 0, 1), (1, 1, 0, 1), (0, 0, 1, 1), (1, 0, 1, 1), (0, 1, 1, 1), (1, 1, 1, 1),
+    ),
+}
 
 
 class Wiring:
-    """The nodes of a circuit by their numbers, ascending, and what hangs together with each; it never changes.
-
-    Sets of nodes are masks, in which digit k stands for node number k.
-    """
+    """The nodes of a circuit by their numbers, ascending, and what hangs together with each; it never changes."""
 
     def __init__(self, circuit):
         inputs, gates = circuit
-        self.nodes = all_nodes(circuit)
-        self.numbers = {node: number for number, node in enumerate(self.nodes)}
-        self.units = [1 << number for number in range(len(self.nodes))]
-        self.whole = (1 << len(self.nodes)) - 1
-        self.tables = [gate[2] for gate in gates]
-        self.starts = [self.numbers[(gate[0], GATE)] for gate in gates]
-        # For each node its gate, and what the bit of a wire weighs in the position in the table.
+        self.nodes = []
+        # For each node its gate.
         self.gate_of = []
-        self.weights = []
-        # For each input and gate, the set of the wires that read it.
+        starts = []
         readers = {name: 0 for name in inputs}
         readers.update({gate[0]: 0 for gate in gates})
-        for at, (_, sources, _) in enumerate(gates):
-            self.gate_of.extend([at] * (1 + len(sources)))
-            self.weights.append(0)
+        unit = 1
+        for at, (name, sources, _) in enumerate(gates):
+            starts.append(len(self.nodes))
+            self.nodes.append((name, GATE))
+            self.gate_of.append(at)
             for wire, source in enumerate(sources):
-                self.weights.append(1 << (len(sources) - 1 - wire))
-                readers[source] = readers[source] | self.units[self.starts[at] + 1 + wire]
+                unit = unit + unit
+                readers[source] = readers[source] | unit
+                self.nodes.append((name, wire))
+                self.gate_of.append(at)
+            unit = unit + unit
+        self.units = [1 << number for number in range(len(self.nodes))]
+        # The nodes that are wires.
+        self.wire_mask = sum([readers[name] for name in readers])
+        # For each input and gate the wires that read it.
         self.readers = readers
-        self.fans = [readers[gate[0]] for gate in gates]
-        # For each gate, the bits of its wires by the position in its table.
-        rows = [rows_over([BITS] * many) for many in range(5)]
-        self.rows = [rows[len(gate[1])] for gate in gates]
+        # For each gate its number, the mask for its digits and those of its wires, its table by these, and its readers.
+        self.gates = []
+        for (name, sources, table), start in zip(gates, starts):
+            many = len(sources)
+            self.gates.append((start, FIELDS[many], by_digits(table), readers[name]))
+        self.numbers = {node: number for number, node in enumerate(self.nodes)}
+
+    def reading(self, setting):
+        """Return the set of the wires that read an input with the bit 1."""
+        return sum([self.readers[name] for name in setting if setting[name]])
+
+    def restless(self, given, bits):
+        """Return the set of the excited nodes of a state."""
+        wanted = given
+        uneasy = 0
+        for start, field, table, fan in self.gates:
+            part = bits >> start & field
+            own = part & 1
+            if own:
+                wanted = wanted | fan
+            if table[part >> 1] != own:
+                uneasy = uneasy | 1 << start
+        return uneasy | (bits ^ wanted) & self.wire_mask
+
+    def flipped(self, bits, uneasy, number):
+        """Return the state in which a node has the other bit, and the set of its excited nodes."""
+        own = self.units[number]
+        start, field, table, fan = self.gates[self.gate_of[number]]
+        if number == start:
+            return bits ^ own, uneasy ^ own ^ fan
+        after = bits ^ own
+        if table[(bits >> start & field) >> 1] != table[(after >> start & field) >> 1]:
+            return after, uneasy ^ own ^ self.units[start]
+        return after, uneasy ^ own
+
+    def bits_of(self, state):
+        """Return the number of a state of the circuit."""
+        flat = []
+        for own, taken in zip(state[0], state[1]):
+            flat.append(own)
+            flat.extend(taken)
+        bits = 0
+        for unit, bit in zip(self.units, flat):
+            if bit:
+                bits = bits | unit
+        return bits
+
+
+def by_digits(table):
+    """Return the results of a table by the number whose digits are the bits of the wires."""
+    return table if len(table) < 4 else [table[position] for position in POSITIONS[len(table)]]
+
+
+def state_with(wiring, bits):
+    """Return the state with a number."""
+    own = []
+    taken = []
+    for start, field, _, _ in wiring.gates:
+        part = bits >> start & field
+        own.append(part & 1)
+        taken.append(WIRE_BITS[field][part >> 1])
+    return (tuple(own), tuple(taken))
+
+
+def changed_state(wiring, state, changed, bits):
+    """Return the state with a number, by another state and the set of the nodes at which they differ."""
+    own = list(state[0])
+    taken = list(state[1])
+    for number in numbers_of(changed):
+        at = wiring.gate_of[number]
+        start, field, _, _ = wiring.gates[at]
+        part = bits >> start & field
+        own[at] = part & 1
+        taken[at] = WIRE_BITS[field][part >> 1]
+    return (tuple(own), tuple(taken))
 
 
 def node_number(numbers, value):
     """Return the number of a node, or None if the value is not a node that has one."""
     return numbers[value] if is_node_pair(value) and value in numbers else None
-
-
-def position_of(bits):
-    """Return the number whose binary digits are the bits, the first one first."""
-    position = 0
-    for bit in bits:
-        position += position + bit
-    return position
-
-
-class Motion:
-    """A state in which nodes can move, with the set of its excited nodes."""
-
-    def __init__(self, wiring, circuit, setting, state):
-        self.wiring = wiring
-        self.own = list(state[0])
-        self.taken = list(state[1])
-        self.positions = [position_of(bits) for bits in self.taken]
-        self.wishes = [table[position] for table, position in zip(wiring.tables, self.positions)]
-        given = {**setting}
-        for gate, bit in zip(circuit[1], self.own):
-            given[gate[0]] = bit
-        uneasy = 0
-        for at, start in enumerate(wiring.starts):
-            if self.own[at] != self.wishes[at]:
-                uneasy = uneasy | wiring.units[start]
-            for wire, source in enumerate(circuit[1][at][1]):
-                if self.taken[at][wire] != given[source]:
-                    uneasy = uneasy | wiring.units[start + 1 + wire]
-        self.uneasy = uneasy
-
-    def move(self, movers):
-        """Let the excited nodes with these numbers move."""
-        wiring = self.wiring
-        flips = 0
-        touched = []
-        for number in movers:
-            flips = flips ^ wiring.units[number]
-            at = wiring.gate_of[number]
-            weight = wiring.weights[number]
-            if weight:
-                self.positions[at] = self.positions[at] ^ weight
-                touched.append(at)
-            else:
-                self.own[at] = 1 - self.own[at]
-                flips = flips ^ wiring.fans[at]
-        for at in touched:
-            position = self.positions[at]
-            self.taken[at] = wiring.rows[at][position]
-            if wiring.tables[at][position] != self.wishes[at]:
-                self.wishes[at] = 1 - self.wishes[at]
-                flips = flips ^ wiring.units[wiring.starts[at]]
-        self.uneasy = self.uneasy ^ flips
-
-    def change(self, names):
-        """Give the other bit to these inputs."""
-        for name in names:
-            self.uneasy = self.uneasy ^ self.wiring.readers[name]
-
-    def twin(self):
-        """Return an equal state that moves on its own."""
-        other = Motion(Wiring(EMPTY), EMPTY, {}, EMPTY)
-        other.wiring = self.wiring
-        other.own = list(self.own)
-        other.taken = list(self.taken)
-        other.positions = list(self.positions)
-        other.wishes = list(self.wishes)
-        other.uneasy = self.uneasy
-        return other

@@ -1,13 +1,12 @@
 """Plays: runs that go on step by step."""
 
-from heapq import heapify, heappop, heappush
-
 from loopgates.base.counts import require_many, require_undoable
 from loopgates.base.masks import count_in, numbers_in
 from loopgates.circuits.circuits import require_circuit
 from loopgates.circuits.settings import require_setting
 from loopgates.errors import InvalidStep
-from loopgates.runs.motion import Motion, Wiring, node_number
+from loopgates.runs.motion import Wiring, changed_state, node_number
+from loopgates.runs.spots import MOST_NODES, RUSH, TURN, Field
 from loopgates.runs.states import even_state, require_state
 
 MOST_STEPS = 10000
@@ -24,18 +23,19 @@ class Play:
             require_state(circuit, state)
         self._circuit = circuit
         self._setting = {name: setting[name] for name in circuit[0]}
-        self._wiring = Wiring(circuit)
-        self._motion = Motion(self._wiring, circuit, setting, even_state(circuit, 0) if state is None else state)
-        self._steps = []
-        # For each step and change what brings back what was before it.
-        self._deeds = []
-        # The nodes that were excited all the time since the round began, and have not moved.
-        self._pending = self._motion.uneasy
+        self._field = Field(Wiring(circuit))
+        wiring = self._field.wiring
+        self._spot = self._field.first(wiring.reading(setting), 0 if state is None else wiring.bits_of(state))
+        # The state, if the circuit is so great that it takes long to make it of the spot.
+        self._shown = None
+        if len(wiring.nodes) > MOST_NODES:
+            self._shown = even_state(circuit, 0) if state is None else state
         self._rounds = 0
-        # For each excited node the moment at which it was served last, -1 for never.
-        self._served = [-1] * len(self._wiring.nodes)
-        # The excited nodes as pairs of this moment and their number, beside older pairs; or None.
-        self._queue = None
+        self._steps = []
+        # For each step and change of the setting the spot before it, and what brings back the rest: for a step how many
+        # rounds ended with it, for a change the pair of the setting and the rounds before it.
+        self._spots = []
+        self._ended = []
 
     @property
     def circuit(self):
@@ -55,7 +55,7 @@ class Play:
     @property
     def state(self):
         """The present state."""
-        return (tuple(self._motion.own), tuple(self._motion.taken))
+        return self._spot.picture if self._shown is None else self._shown
 
     @property
     def steps(self):
@@ -70,20 +70,17 @@ class Play:
     @property
     def excited(self):
         """The ascending tuple of the excited nodes."""
-        return tuple([self._wiring.nodes[number] for number in numbers_in(self._motion.uneasy)])
+        return tuple([self._field.wiring.nodes[number] for number in numbers_in(self._spot.uneasy)])
 
     def change(self, setting):
         """Change the setting; the state stays."""
         require_setting(self._circuit, setting)
-        names = [name for name in self._circuit[0] if setting[name] != self._setting[name]]
-        if names:
-            before = self._motion.uneasy
-            self._motion.change(names)
-            self._queue = None
-            self._deeds.append((None, names, self._pending, self._rounds, self._serve(before, 0)))
+        if setting != self._setting:
+            self._spots.append(self._spot)
+            self._ended.append((self._setting, self._rounds))
             self._setting = {name: setting[name] for name in self._circuit[0]}
-            self._pending = self._motion.uneasy
             self._rounds = 0
+            self._spot = self._field.changed(self._spot, self._field.wiring.reading(setting))
 
     def step(self, *movers):
         """Do a step of these movers and return the new state."""
@@ -93,126 +90,129 @@ class Play:
         """Do a step of a tuple of movers and return the new state."""
         if type(movers) is not tuple or not movers:
             raise InvalidStep("not a tuple of one or more movers")
+        wiring = self._field.wiring
         numbers = []
-        free = self._motion.uneasy
+        free = self._spot.uneasy
         for node in movers:
-            number = node_number(self._wiring.numbers, node)
+            number = node_number(wiring.numbers, node)
             if number is None or not free >> number & 1:
                 raise InvalidStep("not different excited nodes")
-            free = free ^ self._wiring.units[number]
+            free = free ^ wiring.units[number]
             numbers.append(number)
-        self._queue = None
-        self._go(sorted(numbers))
+        numbers = sorted(numbers)
+        after, ended = self._field.moved(self._spot, numbers)
+        self._spots.append(self._spot)
+        self._ended.append(ended)
+        self._steps.append(tuple([wiring.nodes[number] for number in numbers]))
+        self._rounds += ended
+        self._reach(self._field.counted(after))
         return self.state
 
     def rush(self, *, many=1):
         """Let all excited nodes move, so many times or until nothing is excited, and return the number of steps."""
         require_many(many, MOST_STEPS)
-        self._queue = None
-        done = 0
-        while done < many and self._motion.uneasy:
-            self._go(numbers_in(self._motion.uneasy))
-            done += 1
-        return done
+        return self._go(RUSH, many)
 
     def turn(self, *, many=1):
         """Let one node move after the other, each time the one that waits longest, and return the number of steps."""
         require_many(many, MOST_STEPS)
-        done = 0
-        while done < many and self._motion.uneasy:
-            self._go([self._next()])
-            done += 1
-        return done
+        return self._go(TURN, many)
 
     def undo(self, *, many=1):
         """Take back the last steps and changes of the setting, and return how many are left."""
-        require_undoable(many, len(self._deeds))
-        self._queue = None
-        for _ in range(many):
-            self._take_back()
-        return len(self._deeds)
+        require_undoable(many, len(self._spots))
+        left = len(self._spots) - many
+        if many:
+            self._reach(self._spots[left])
+        steps = 0
+        for ended in self._ended[left:][::-1]:
+            if type(ended) is tuple:
+                self._setting, self._rounds = ended
+            else:
+                self._rounds -= ended
+                steps += 1
+        del self._spots[left:]
+        del self._ended[left:]
+        del self._steps[len(self._steps) - steps:]
+        return left
 
     def twin(self):
         """Return an independent equal play, with everything that can be undone."""
         other = Play(EMPTY, {})
         other._circuit = self._circuit
-        other._setting = {**self._setting}
-        other._wiring = self._wiring
-        other._motion = self._motion.twin()
-        other._steps = list(self._steps)
-        other._deeds = list(self._deeds)
-        other._pending = self._pending
+        other._setting = self._setting
+        other._field = self._field
+        other._spot = self._spot
+        other._shown = self._shown
         other._rounds = self._rounds
-        other._served = list(self._served)
+        other._steps = list(self._steps)
+        other._spots = list(self._spots)
+        other._ended = list(self._ended)
         return other
 
-    def _go(self, numbers):
-        """Do a step of the excited nodes with these ascending numbers."""
-        before = self._motion.uneasy
-        moved = sum([self._wiring.units[number] for number in numbers])
-        self._motion.move(numbers)
-        after = self._motion.uneasy
-        self._deeds.append((numbers, None, self._pending, self._rounds, self._serve(before, moved)))
-        self._steps.append(tuple([self._wiring.nodes[number] for number in numbers]))
-        self._pending = self._pending & after & ~moved
-        if not self._pending:
-            self._rounds += 1
-            self._pending = after
+    def _go(self, kind, many):
+        """Do turns or rushes, so many or until nothing is excited, and return how many were done."""
+        spot = self._spot
+        done = 0
+        # A play that is at an earlier spot again goes on as it did from there. The spot with which each one is compared
+        # is taken anew after 1, 2, 4, .. steps, so that it lies on the cycle at last.
+        mark = spot.number
+        length = 0
+        span = 1
+        while done < many and spot.uneasy:
+            lead = spot.leads[kind]
+            if lead is None:
+                lead = self._field.lead(spot, kind)
+            self._spots.append(spot)
+            self._steps.append(lead[1])
+            self._ended.append(lead[2])
+            self._rounds += lead[2]
+            spot = lead[0]
+            done += 1
+            length += 1
+            if spot.number == mark:
+                done += self._repeat(length, many - done)
+                length = 0
+            elif length == span:
+                mark = spot.number
+                length = 0
+                span = span + span
+        self._reach(spot)
+        return done
 
-    def _serve(self, before, moved):
-        """Note when the nodes were served that are excited and were not before, or have moved; return older notes."""
-        after = self._motion.uneasy
-        moment = len(self._deeds) + 1
-        notes = [(number, moment - 1) for number in numbers_in(after & ~before)]
-        notes.extend([(number, moment) for number in numbers_in(after & moved)])
-        older = [(number, self._served[number]) for number, _ in notes]
-        for number, time in notes:
-            self._served[number] = time
-            if self._queue is not None:
-                heappush(self._queue, (time, number))
-        return older
+    def _reach(self, spot):
+        """Be at another spot."""
+        if self._shown is not None:
+            self._shown = changed_state(self._field.wiring, self._shown, self._spot.bits ^ spot.bits, spot.bits)
+        self._spot = spot
 
-    def _next(self):
-        """Return the number of the excited node that was served at the earliest moment, the first one of several."""
-        if self._queue is None:
-            self._queue = [(self._served[number], number) for number in numbers_in(self._motion.uneasy)]
-            heapify(self._queue)
-        time, number = self._queue[0]
-        # A pair is past if its node was served later, or is not excited any more.
-        while time != self._served[number] or not self._motion.uneasy >> number & 1:
-            heappop(self._queue)
-            time, number = self._queue[0]
-        return number
-
-    def _take_back(self):
-        """Take back the last step or change of the setting."""
-        numbers, names, self._pending, self._rounds, older = self._deeds.pop()
-        if numbers is None:
-            self._motion.change(names)
-            for name in names:
-                self._setting[name] = 1 - self._setting[name]
-        else:
-            self._motion.move(numbers)
-            self._steps.pop()
-        for number, time in older:
-            self._served[number] = time
+    def _repeat(self, length, most):
+        """Do the last steps again, so many of them, as often as it is possible with so many steps; return how many."""
+        times = most // length
+        if times:
+            ended = self._ended[-length:]
+            self._spots.extend(self._spots[-length:] * times)
+            self._steps.extend(self._steps[-length:] * times)
+            self._ended.extend(ended * times)
+            self._rounds += sum(ended) * times
+        return times * length
 
     def __len__(self):
         return len(self._steps)
 
     def __bool__(self):
-        return bool(self._motion.uneasy)
+        return bool(self._spot.uneasy)
 
     def __contains__(self, node):
-        number = node_number(self._wiring.numbers, node)
-        return number is not None and self._motion.uneasy >> number & 1 == 1
+        number = node_number(self._field.wiring.numbers, node)
+        return number is not None and self._spot.uneasy >> number & 1 == 1
 
     def __eq__(self, other):
         if not isinstance(other, Play):
             return False
         if self._circuit != other._circuit or self._setting != other._setting:
             return False
-        return self._motion.own == other._motion.own and self._motion.taken == other._motion.taken
+        return self._spot.bits == other._spot.bits
 
     def __str__(self):
-        return f"play after {len(self._steps)} steps, {count_in(self._motion.uneasy)} excited"
+        return f"play after {len(self._steps)} steps, {count_in(self._spot.uneasy)} excited"
