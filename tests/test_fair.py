@@ -31,7 +31,9 @@ def judged(circuit, setting, state, steps):
     return moved | rested == set(nodes(circuit)), tuple(sorted(name for name, k in moved if k == -1))
 
 
-class Loops(Case):
+class LoopCase(Case):
+    """A test case that judges loops of steps."""
+
     def judge(self, circuit, setting, state, steps):
         """Check the three functions against the words of the document."""
         wanted = judged(circuit, setting, state, steps)
@@ -43,6 +45,8 @@ class Loops(Case):
             self.same(flipping_gates(circuit, setting, (state, steps)), wanted[1])
         return wanted
 
+
+class Loops(LoopCase):
     def test_examples(self):
         state, steps = flipping_loop(OSC, {"a": 1})
         self.same(

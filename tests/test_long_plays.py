@@ -15,7 +15,7 @@ from loopgates.settling.known import known_values
 from tests.samples import (
     CROSS, Case, EMPTY, LUCKY, MIXED, OSC, TIE, all_rows, odd_values, random_circuit, ring, settings_of, small_circuits, word_like)
 from tests.slow_play import as_state, nodes_of, uneasy, wishes_of
-from tests.test_fair import judged
+from tests.test_fair import LoopCase
 from tests.test_force import lasting
 
 # It flips for ever by turns: each gate is moved by others.
@@ -247,18 +247,7 @@ class Long(Case):
         self.same((play.steps, play.state, play.rounds, play.excited, play.setting), before)
 
 
-class Loops(Case):
-    def judge(self, circuit, setting, state, steps):
-        """Check the three functions against the words of 6.1."""
-        wanted = judged(circuit, setting, state, steps)
-        self.same(is_step_loop(circuit, setting, (state, steps)), wanted is not None)
-        self.same(is_fair_loop(circuit, setting, (state, steps)), wanted is not None and wanted[0])
-        if wanted is None:
-            self.refuses(InvalidStep, flipping_gates, circuit, setting, (state, steps))
-        else:
-            self.same(flipping_gates(circuit, setting, (state, steps)), wanted[1])
-        return wanted
-
+class Loops(LoopCase):
     def test_loops_of_plays(self):
         found = [0, 0]
         for number, circuit in enumerate(small_circuits(40, 2, 4) + [RESTLESS, ring_of_nots(3), ring_of_nots(4)]):
