@@ -82,7 +82,8 @@ class Field:
 
     def changed(self, spot, given):
         """Return the spot behind another one when the inputs have changed."""
-        after = Spot(self.wiring, given, spot.bits, self.wiring.restless(given, spot.bits))
+        # Each wire that reads another bit now has become excited, or is no longer.
+        after = Spot(self.wiring, given, spot.bits, spot.uneasy ^ spot.given ^ given)
         wait(after, spot, 0)
         return self.counted(after)
 
