@@ -69,6 +69,14 @@ class Reached(Case):
         self.same(machine_paper(LATE)[:2], ("flips", ((1,), (1,), (1,), (0,))))
         self.same([shortest_flip(FLIP), shortest_flip(SOME), shortest_flip(make_machine(OSC, {}, x="x"))], [((0,),), ((1,), (0,)), ((1,),)])
 
+    def test_histories_with_unlike_rows(self):
+        circuit = make_circuit("z", "a", "b", "c", k=("not", "a"), m=("nand", "k", "b", "c", "x"), x=("and", "m", "z"))
+        machine = make_machine(circuit, {"a": ("z", 0), "b": ("a", 0), "c": ("b", 0)}, q="x")
+        self.same(shortest_flip(machine), ((1,), (1,), (0,), (1,)))
+        self.same(machine_paper(machine)[1], ((1,), (1,), (0,), (1,)))
+        self.same(is_machine_paper(machine, machine_paper(machine)), True)
+        self.same(dict(reached_states(machine))[(0, 1, 1)], ((1,), (1,), (0,)))
+
     def test_flips_only_where_it_never_comes(self):
         circuit = make_circuit("r", "z", k=("and", "r", "z"), x=("nand", "r", "x"))
         never = make_machine(circuit, {"r": ("k", 0)}, q="x")
