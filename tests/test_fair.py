@@ -103,6 +103,17 @@ class Loops(LoopCase):
         state = ((0, 0), ((0,), (0,)))
         self.same([is_step_loop(circuit, {"a": 1}, (state, around)), is_fair_loop(circuit, {"a": 1}, (state, around))], [True, False])
 
+    def test_gates_that_rest_only_in_the_middle(self):
+        circuit = make_circuit(x=("not", "x"), y=("buffer", "x"), z=("and", "x", "x"))
+        for y, z in all_rows((0, 1), 2):
+            state = ((1, y, z), ((1,), (1,), (1, 1)))
+            gate, wires = (("x", -1),), (("x", 0), ("y", 0), ("z", 0), ("z", 1))
+            self.same(self.judge(circuit, {}, state, (gate, wires) * 2), (True, ("x",)))
+            self.same(self.judge(circuit, {}, state, (gate, wires) * 6), (True, ("x",)))
+            self.same(self.judge(circuit, {}, state, (gate, wires[:2]) * 2), (z == 1, ("x",)))
+            self.same(self.judge(circuit, {}, state, (gate, wires[:1] + wires[2:]) * 2), (y == 1, ("x",)))
+            self.same(self.judge(circuit, {}, state, (gate, wires[:3]) * 2), (True, ("x",)))
+
     def test_only_wires_move(self):
         circuit = make_circuit(x=("xor", "x", "x"))
         for row in all_rows((0, 1), 3):

@@ -3,9 +3,10 @@
 import itertools
 import unittest
 
+from loopgates.base.masks import row_masks
 from loopgates.circuits.circuits import circuit_from, make_circuit
 from loopgates.errors import InvalidCircuit, InvalidSetting, TooMany
-from loopgates.runs.force import lasting_bits, lasting_states, rest_states
+from loopgates.runs.force import bit_masks, lasting_bits, lasting_states, rest_states
 from loopgates.runs.states import excited, nodes, stepped_by
 from loopgates.settling.known import known_values
 from tests.samples import (
@@ -62,6 +63,11 @@ class Rest(Case):
                 if len(nodes(circuit)) <= 11:
                     wanted = [state for state in all_states(circuit) if not excited(circuit, setting, state)]
                     self.same(list(rest_states(circuit, setting)), wanted, (circuit, setting))
+
+    def test_masks(self):
+        for many in range(9):
+            pairs, full = bit_masks(many)
+            self.same([list(pairs), full], list(row_masks(many, 2)))
 
     def test_no_gates(self):
         self.same([list(rest_states(EMPTY, {})), list(rest_states(make_circuit("a"), {"a": 1}))], [[((), ())], [((), ())]])

@@ -3,12 +3,14 @@
 import itertools
 import random
 import unittest
+import unittest.mock
 
 from loopgates.circuits.circuits import circuit_from, make_circuit
 from loopgates.errors import InvalidNumber, InvalidSetting, InvalidStep, NothingToUndo, TooMany
 from loopgates.runs.fair import flipping_gates, is_fair_loop, is_step_loop
 from loopgates.runs.flips import flipping_loop
 from loopgates.runs.force import lasting_bits, lasting_states, rest_states
+from loopgates.runs.motion import WIRE_BITS, by_digits
 from loopgates.runs.plays import Play
 from loopgates.runs.states import excited, nodes, plain_state, state_from
 from loopgates.settling.known import known_values
@@ -229,6 +231,28 @@ class Long(Case):
             self.same(play.undo(many=30), slow.undo(30))
             self.alike(play, slow)
 
+    def test_few_spots_are_noted(self):
+        for most in (1, 2, 3, 7):
+            with unittest.mock.patch("loopgates.runs.spots.MOST_SPOTS", most):
+                for circuit, setting in ((RESTLESS, {"a": 1}), (ring_of_nots(3), {})):
+                    play, slow = self.both(circuit, setting, {node: 0 for node in nodes_of(circuit)})
+                    for kind, many in (("turn", 120), ("rush", 50), ("turn", 300)):
+                        self.go(play, slow, kind, many)
+
+    def test_gates_of_four_wires(self):
+        for size in (1, 2, 4, 8, 16):
+            wires = size.bit_length() - 1
+            turned = by_digits(tuple(range(size)))
+            for bits in all_rows((0, 1), wires):
+                self.same(turned[sum(bit << k for k, bit in enumerate(bits))], int("".join(map(str, bits)) or "0", 2))
+                self.same(WIRE_BITS[2 * size - 1][sum(bit << k for k, bit in enumerate(bits))], bits)
+        for seed in range(6):
+            dice = random.Random(seed)
+            circuit = make_circuit("a", **{name: (tuple(dice.randint(0, 1) for _ in range(16)), *dice.choices("apqr", k=4)) for name in "pqr"})
+            play, slow = self.both(circuit, {"a": seed % 2}, {node: dice.randint(0, 1) for node in nodes_of(circuit)})
+            for kind, many in (("turn", 40), ("rush", 40), ("turn", 40)):
+                self.go(play, slow, kind, many)
+
     def test_wrong_values(self):
         play = Play(RESTLESS, {"a": 1})
         play.turn(many=1000)
@@ -313,6 +337,9 @@ class Loops(LoopCase):
         self.judge(other, {}, begun, pair * 2)
         for step in ((("aab", -1), ("aaa", -1)), (("aaa", -1), ("aaa", -1)), (("aaa", -1), ("aab", True)), (("aaa", -1), ("zz", -1)), (("aaa", -1), ["aab", -1]), (("aaa", -1), None)):
             self.same(is_step_loop(other, {}, (begun, (step,) + pair[1:] + pair)), False)
+        for double in ((("aaa", -1), ("aab", -1), ("aab", -1)), (("aaa", -1), ("aaa", -1), ("aab", -1)), (("aaa", -1), ("aaa", -1))):
+            for rest in (pair[1:] + pair, pair[1:], pair, ((("aaa", -1),), (("aaa", 0),)), ((("aaa", 0),), (("aaa", 0),)), ((("aaa", 0), ("aaa", 0)),)):
+                self.same(is_step_loop(other, {}, (begun, (double,) + rest)), False)
         for value in odd_values():
             self.same(is_step_loop(other, {}, (begun, value)), False)
             self.same(is_step_loop(other, {}, (begun, (value,) * 4)), False)
