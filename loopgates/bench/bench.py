@@ -9,6 +9,8 @@ from loopgates.runs.flips import settling_paper
 from loopgates.settling.causes import value_paper
 from loopgates.settling.known import gate_values
 
+EMPTY = ((), ())
+
 
 def require_values(inputs, values):
     """Raise InvalidSetting if it is not a dict from some of the inputs to values."""
@@ -38,7 +40,8 @@ class Bench:
     @classmethod
     def of(cls, circuit, setting):
         """Return the bench with a dict of a partial setting."""
-        bench = cls(circuit)
+        require_circuit(circuit)
+        bench = cls(EMPTY)
         bench._start(circuit, setting)
         return bench
 
@@ -161,7 +164,7 @@ class Bench:
 
     def twin(self):
         """Return an independent equal bench without watched gates and groups."""
-        other = Bench(((), ()))
+        other = Bench(EMPTY)
         other._moments = [self._moments[self._at]]
         return other
 
