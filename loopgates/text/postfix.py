@@ -69,9 +69,9 @@ def parsed(text):
     return tuple(found) if ready and not waiting and len(found) <= MOST_SIGNS else None
 
 
-def enclosed(text, strength, least):
-    """Return the text, in parentheses if it does not bind as close as it must."""
-    return text if strength >= least else f"({text})"
+def enclosed(text, close):
+    """Return the text, in parentheses if it does not bind close enough."""
+    return text if close else f"({text})"
 
 
 def written(signs):
@@ -84,12 +84,12 @@ def written(signs):
         strength = STRENGTHS[sign]
         text, own = stack.pop()
         if sign == NOT:
-            stack.append((NOT + enclosed(text, own, strength), strength))
+            stack.append((f"{NOT}{enclosed(text, own >= strength)}", strength))
         else:
             # Operators are read from the left, so an equal one on the right has to stand in parentheses.
             first, other = stack.pop()
-            right = enclosed(text, own, strength + 1)
-            stack.append((f"{enclosed(first, other, strength)} {sign} {right}", strength))
+            right = enclosed(text, own > strength)
+            stack.append((f"{enclosed(first, other >= strength)} {sign} {right}", strength))
     return stack[0][0]
 
 
