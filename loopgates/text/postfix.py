@@ -84,12 +84,14 @@ def written(signs):
         strength = STRENGTHS[sign]
         text, own = stack.pop()
         if sign == NOT:
-            stack.append((f"{NOT}{enclosed(text, own >= strength)}", strength))
+            inner = enclosed(text, own >= strength)
+            stack.append((f"{NOT}{inner}", strength))
         else:
             # Operators are read from the left, so an equal one on the right has to stand in parentheses.
             first, other = stack.pop()
+            left = enclosed(first, other >= strength)
             right = enclosed(text, own > strength)
-            stack.append((f"{enclosed(first, other >= strength)} {sign} {right}", strength))
+            stack.append((f"{left} {sign} {right}", strength))
     return stack[0][0]
 
 
