@@ -111,13 +111,9 @@ def by_digits(table):
 
 def state_with(wiring, bits):
     """Return the state with a number."""
-    own = []
-    taken = []
-    for start, field, _, _ in wiring.gates:
-        part = bits >> start & field
-        own.append(part & 1)
-        taken.append(WIRE_BITS[field][part >> 1])
-    return (tuple(own), tuple(taken))
+    parts = [(bits >> start & field, field) for start, field, _, _ in wiring.gates]
+    own = tuple([part & 1 for part, _ in parts])
+    return (own, tuple([WIRE_BITS[field][part >> 1] for part, field in parts]))
 
 
 def changed_state(wiring, state, changed, bits):
