@@ -37,12 +37,12 @@ class Wiring:
         self.nodes = []
         # For each node its gate.
         self.gate_of = []
-        starts = []
+        self.starts = []
         readers = {name: 0 for name in inputs}
         readers.update({gate[0]: 0 for gate in gates})
         unit = 1
         for at, (name, sources, _) in enumerate(gates):
-            starts.append(len(self.nodes))
+            self.starts.append(len(self.nodes))
             self.nodes.append((name, GATE))
             self.gate_of.append(at)
             for wire, source in enumerate(sources):
@@ -58,9 +58,12 @@ class Wiring:
         self.readers = readers
         # For each gate its number, the mask for its digits and those of its wires, its table by these, and its readers.
         self.gates = []
-        for (name, sources, table), start in zip(gates, starts):
-            many = len(sources)
-            self.gates.append((start, FIELDS[many], by_digits(table), readers[name]))
+        # For each gate where the digits of its wires begin, their mask, and the bits of the wires by their digits.
+        self.views = []
+        for (name, sources, table), start in zip(gates, self.starts):
+            field = FIELDS[len(sources)]
+            self.gates.append((start, field, by_digits(table), readers[name]))
+            self.views.append((start + 1, field >> 1, WIRE_BITS[field]))
         self.numbers = {node: number for number, node in enumerate(self.nodes)}
 
     def reading(self, setting):
@@ -111,9 +114,8 @@ def by_digits(table):
 
 def state_with(wiring, bits):
     """Return the state with a number."""
-    parts = [(bits >> start & field, field) for start, field, _, _ in wiring.gates]
-    own = tuple([part & 1 for part, _ in parts])
-    return (own, tuple([WIRE_BITS[field][part >> 1] for part, field in parts]))
+    own = tuple([bits >> start & 1 for start in wiring.starts])
+    return (own, tuple([rows[bits >> first & mask] for first, mask, rows in wiring.views]))
 
 
 def changed_state(wiring, state, changed, bits):
@@ -122,10 +124,9 @@ def changed_state(wiring, state, changed, bits):
     taken = list(state[1])
     for number in numbers_of(changed):
         at = wiring.gate_of[number]
-        start, field, _, _ = wiring.gates[at]
-        part = bits >> start & field
-        own[at] = part & 1
-        taken[at] = WIRE_BITS[field][part >> 1]
+        first, mask, rows = wiring.views[at]
+        own[at] = bits >> wiring.starts[at] & 1
+        taken[at] = rows[bits >> first & mask]
     return (tuple(own), tuple(taken))
 
 
