@@ -251,6 +251,18 @@ class Language(unittest.TestCase):
         self.assertFalse(plain & self.properties)
         self.assertFalse((self.properties - {"setting", "state"}) & self.attributes)
 
+    def test_what_lengths_give_back(self):
+        many = 0
+        for path, _, tree in self.each():
+            for function in ast.walk(tree):
+                if isinstance(function, ast.FunctionDef) and function.name == "__len__":
+                    many += 1
+                    self.assertIsInstance(function.body[-1], ast.Return, path)
+                    for node in ast.walk(function):
+                        if isinstance(node, ast.Return):
+                            self.assertRegex(ast.unparse(node.value), r"\A(len\((?!range\().*\)|[0-9]+)\Z", (path, node.lineno))
+        self.assertEqual(many, sum("__len__" in words.split() for words in CLASSES.values()))
+
     def keeps(self, node):
         """Return whether a property does nothing but keep what it worked out, in the one form for this."""
         form = r"if self\.(_[a-z]+) is None:\n    self\.\1 = [^\n]+\nreturn self\.\1\Z"
