@@ -251,6 +251,14 @@ class Language(unittest.TestCase):
         self.assertFalse(plain & self.properties)
         self.assertFalse((self.properties - {"setting", "state"}) & self.attributes)
 
+    def test_called_methods_are_no_attributes(self):
+        # By its name such a call may be one of something that an object holds (L5, L18).
+        for path, _, tree in self.each():
+            for node in ast.walk(tree):
+                if isinstance(node, ast.Call) and isinstance(node.func, ast.Attribute):
+                    self.assertNotIn(node.func.attr, self.attributes, (path, node.lineno))
+        self.assertFalse(self.attributes & METHODS)
+
     def test_what_lengths_give_back(self):
         many = 0
         for path, _, tree in self.each():

@@ -71,7 +71,7 @@ class Field:
 
     def __init__(self, wiring):
         self.wiring = wiring
-        self.count = 0
+        self.last_number = 0
         self.met = {}
 
     def first(self, given, bits):
@@ -89,8 +89,8 @@ class Field:
 
     def counted(self, spot):
         """Give a number of its own to a spot, and return it."""
-        self.count += 1
-        spot.number = self.count
+        self.last_number += 1
+        spot.number = self.last_number
         return spot
 
     def moved(self, spot, numbers):
